@@ -1,0 +1,1 @@
+"""Sealedkinds: modules whose kinds are sealed by faces."""

@@ -1,0 +1,55 @@
+"""Names, numbers, figures and rows of labels, for kinds and terms alike."""
+
+# Python's own str and int refuse numbers of many thousand figures: longer ones go block by block.
+BLOCK = 1000000000000000000
+BLOCK_LENGTH = 18
+
+
+def is_number(thing):
+    """Whether it is a whole number, and neither True nor False."""
+    return isinstance(thing, int) and not isinstance(thing, bool)
+
+
+def is_name(thing):
+    """Whether it is a text of one to eight letters a to z."""
+    if not isinstance(thing, str) or not 1 <= len(thing) <= 8:
+        return False
+    return all(["a" <= sign <= "z" for sign in thing])
+
+
+def rises(things):
+    """Whether each of them is greater than the one ahead of it."""
+    return all([one < other for one, other in zip(things, things[1:])])
+
+
+def is_row(thing, width):
+    """Whether it is a tuple of tuples of so many things, each led by a label, the labels rising."""
+    if not isinstance(thing, tuple):
+        return False
+    for item in thing:
+        if not isinstance(item, tuple) or len(item) != width or not is_name(item[0]):
+            return False
+    return rises([item[0] for item in thing])
+
+
+def figures_of(number):
+    """A number from 0 on in figures."""
+    blocks = []
+    while number >= BLOCK:
+        number, block = divmod(number, BLOCK)
+        blocks.append(f"{block:018d}")
+    blocks.append(str(number))
+    return "".join(blocks[::-1])
+
+
+def number_in(text):
+    """The number that stands there in figures, without a nought ahead; None where none does."""
+    if not text or not all(["0" <= sign <= "9" for sign in text]):
+        return None
+    if text != "0" and text.startswith("0"):
+        return None
+    first = len(text) % BLOCK_LENGTH
+    number = int("0" + text[:first])
+    for start in range(first, len(text), BLOCK_LENGTH):
+        number = number * BLOCK + int(text[start:start + BLOCK_LENGTH])
+    return number

@@ -1,0 +1,164 @@
+"""Terms: what is one, its places, its parts, what it names."""
+
+from sealedkinds.errors import NoPlace
+from sealedkinds.names import is_name, is_number, is_row
+from sealedkinds.walking import all_in
+
+MOST = 99990
+
+# What stands behind the head, in the order of the text: n a name or a label, t a term, # a number.
+LAYOUTS = {
+    "num": "#", "name": "n", "from": "nn", "hole": "", "fun": "nt", "call": "tt",
+    "add": "tt", "less": "tt", "times": "tt", "under": "tttt", "get": "tn", "put": "tnt", "tag": "nt",
+}
+
+
+def layout_of(head, many):
+    """The layout of so many things behind that head; another length where there can't be so many, or no such head."""
+    if head == "rec":
+        return "nt" * (many // 2)
+    if head == "case":
+        return "t" + "nnt" * ((many - 1) // 3)
+    return LAYOUTS.get(head, "")
+
+
+def items_of(term):
+    """What stands behind the head of a term, pairs and ways taken apart."""
+    if term[0] == "rec":
+        return [item for pair in term[1] for item in pair]
+    if term[0] == "case":
+        return [term[1]] + [item for way in term[2] for item in way]
+    return list(term[1:])
+
+
+def term_of(head, items):
+    """The term of which these are the head and the items."""
+    if head == "rec":
+        return ("rec", tuple(zip(items[::2], items[1::2])))
+    if head == "case":
+        return ("case", items[0], tuple(zip(items[1::3], items[2::3], items[3::3])))
+    return (head, *items)
+
+
+def term_parts(term):
+    """The terms straight in a term, from left to right."""
+    items = items_of(term)
+    return [item for sign, item in zip(layout_of(term[0], len(items)), items) if sign == "t"]
+
+
+def with_items(term, parts):
+    """The items of a term with other things for the terms straight in it."""
+    items = items_of(term)
+    at = 0
+    for k, sign in enumerate(layout_of(term[0], len(items))):
+        if sign == "t":
+            items[k] = parts[at]
+            at += 1
+    return items
+
+
+def bound_in(term):
+    """Of each of the terms straight in it the name that is bound ahead of that one, or None."""
+    if term[0] == "fun":
+        return [term[1]]
+    if term[0] == "case":
+        return [None] + [way[1] for way in term[2]]
+    return [None for _ in term_parts(term)]
+
+
+def is_term(thing):
+    """Whether the thing is a term."""
+    todo = [thing]
+    while todo:
+        part = todo.pop()
+        if not is_made_as_term(part):
+            return False
+        todo.extend(term_parts(part))
+    return True
+
+
+def is_made_as_term(thing):
+    """Whether the thing is a term if what stands where its parts stand are terms."""
+    if not isinstance(thing, tuple) or not thing or not isinstance(thing[0], str):
+        return False
+    head = thing[0]
+    if head == "rec":
+        return len(thing) == 2 and is_row(thing[1], 2)
+    if head == "case":
+        return len(thing) == 3 and is_row(thing[2], 3) and len(thing[2]) > 0 and has_names(thing)
+    if head == "num":
+        return len(thing) == 2 and is_number(thing[1]) and 0 <= thing[1] <= MOST
+    return head in LAYOUTS and len(thing) == 1 + len(LAYOUTS[head]) and has_names(thing)
+
+
+def has_names(term):
+    """Whether there are names where names and labels stand."""
+    items = items_of(term)
+    return all([is_name(item) for sign, item in zip(layout_of(term[0], len(items)), items) if sign == "n"])
+
+
+def scoped(term):
+    """The list, in order of places, of (place, part, scope).
+
+    The scope is a dict of the names that are bound there; each tells the place of the term ahead of which it is bound.
+    """
+    found = []
+    todo = [((), term, {})]
+    while todo:
+        place, part, scope = todo.pop()
+        found.append((place, part, scope))
+        for k, (name, inner) in enumerate(zip(bound_in(part), term_parts(part))):
+            around = scope
+            if name is not None:
+                around = dict(scope)
+                around[name] = place + (k,)
+            todo.append((place + (k,), inner, around))
+    return found[::-1]
+
+
+def places_of(term):
+    """The list of all places, those in a part ahead of its whole, parts from left to right."""
+    return [spot[0] for spot in scoped(term)]
+
+
+def things_in(term):
+    """How many places there are."""
+    return len(all_in(term, term_parts))
+
+
+def part_at(term, place):
+    """The part at that place; NoPlace(place)."""
+    return way_to(term, place)[-1]
+
+
+def with_at(term, place, other):
+    """The term with the other one in that place; NoPlace(place)."""
+    around = way_to(term, place)
+    made = other
+    for k, whole in zip(place[::-1], around[-2::-1]):
+        parts = term_parts(whole)
+        parts[k] = made
+        made = term_of(whole[0], with_items(whole, parts))
+    return made
+
+
+def way_to(term, place):
+    """The list of the terms from the whole to the part at that place; NoPlace(place)."""
+    way = [term]
+    for k in place:
+        parts = term_parts(way[-1])
+        if k < 0 or k >= len(parts):
+            raise NoPlace(place)
+        way.append(parts[k])
+    return way
+
+
+def named_in(term):
+    """The list, in order of places, of (place, what) of names that aren't bound, and of froms."""
+    found = []
+    for place, part, scope in scoped(term):
+        if part[0] == "from":
+            found.append((place, (part[1], part[2])))
+        elif part[0] == "name" and part[1] not in scope:
+            found.append((place, part[1]))
+    return found

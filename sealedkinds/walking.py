@@ -1,0 +1,39 @@
+"""Ways through trees of tuples, without calls within calls: a text may ask for a tree of any depth."""
+
+
+def all_in(tree, parts_of):
+    """The tree and all trees in it, a whole ahead of its parts, parts from left to right."""
+    found = []
+    todo = [tree]
+    while todo:
+        part = todo.pop()
+        found.append(part)
+        todo.extend(parts_of(part)[::-1])
+    return found
+
+
+def folded(tree, parts_of, make):
+    """What make(part, what is made of its parts) makes of the tree, parts ahead of their wholes."""
+    made = []
+    for part in reversed(all_in(tree, parts_of)):
+        # Behind one another from the right, the parts lie with the leftmost on top.
+        start = len(made) - len(parts_of(part))
+        inner = made[start:][::-1]
+        del made[start:]
+        made.append(make(part, inner))
+    return made[0]
+
+
+def alike(one, other):
+    """Whether two trees of tuples are equal."""
+    todo = [(one, other)]
+    while todo:
+        left, right = todo.pop()
+        if not isinstance(left, tuple) or not isinstance(right, tuple):
+            if left != right:
+                return False
+        elif len(left) != len(right):
+            return False
+        else:
+            todo.extend(list(zip(left, right)))
+    return True
