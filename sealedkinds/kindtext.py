@@ -39,21 +39,21 @@ def star_text(number):
 
 def kind_in(text):
     """The kind of which this is the text; BadText(text)."""
-    kind = as_kind(read_brackets(text, bracket_kind))
-    if kind is None or not is_kind(kind) or kind_text(kind) != text:
+    # What is read may be no kind, or a kind with another text: it is looked at here alone.
+    thing = as_kind(read_brackets(text, bracket_kind))
+    if not is_kind(thing) or kind_text(thing) != text:
         raise BadText(text)
-    return kind
+    return thing
 
 
 def as_kind(item):
-    """The kind that a word stands for; what is no word, as it is; None of a word that stands for none."""
+    """What a word stands for, perhaps no kind; what is no word, as it is."""
     if not isinstance(item, str):
         return item
     if item == "num":
         return ("num",)
     if item.startswith("*"):
-        number = number_in(item[1:])
-        return None if number is None else ("any", number)
+        return ("any", number_in(item[1:]))
     module, _, name = item.partition(".")
     return ("own", module, name)
 
@@ -62,23 +62,20 @@ def bracket_kind(items):
     """What a bracket of these stands for, perhaps no kind; None where that's plain."""
     head = items[0]
     behind = items[1:]
-    if head == "fun" and len(behind) == 2:
-        parts = [as_kind(item) for item in behind]
-        return None if None in parts else ("fun", parts[0], parts[1])
+    if head == "fun":
+        return ("fun", *[as_kind(item) for item in behind])
     if head == "rec" or head == "sum":
         return bracket_row(head, behind)
     return None
 
 
 def bracket_row(head, items):
-    """The rec or sum of labels and kinds in turn, and perhaps a rest behind them; None where it's plainly none."""
+    """Likewise the rec or sum of labels and kinds in turn, and perhaps a rest behind them."""
     rest = None
     if len(items) % 2 == 1:
         last = as_kind(items[-1])
-        if last is None or last[0] != "any":
+        if last[0] != "any":
             return None
         rest = last[1]
     parts = [as_kind(item) for item in items[1::2]]
-    if None in parts:
-        return None
     return (head, tuple(zip(items[::2], parts)), rest)

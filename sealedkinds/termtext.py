@@ -31,21 +31,21 @@ def text_by_parts(term, texts):
 
 def term_in(text):
     """The term of which this is the text; BadText(text)."""
-    term = as_term(read_brackets(text, bracket_term))
-    if term is None or not is_term(term) or term_text(term) != text:
+    # What is read may be no term, or a term with another text: it is looked at here alone.
+    thing = as_term(read_brackets(text, bracket_term))
+    if not is_term(thing) or term_text(thing) != text:
         raise BadText(text)
-    return term
+    return thing
 
 
 def as_term(item):
-    """The term that a word stands for; what is no word, as it is; None of a word that stands for none."""
+    """What a word stands for, perhaps no term; what is no word, as it is."""
     if not isinstance(item, str):
         return item
     if item == "?":
         return ("hole",)
     if item[:1].isdigit():
-        number = number_in(item[:MOST_FIGURES + 1])
-        return None if number is None else ("num", number)
+        return ("num", number_in(item[:MOST_FIGURES + 1]))
     if "." in item:
         module, _, name = item.partition(".")
         return ("from", module, name)
@@ -61,5 +61,4 @@ def bracket_term(items):
     layout = layout_of(head, len(behind))
     if len(layout) != len(behind):
         return None
-    made = [as_term(item) if sign == "t" else item for sign, item in zip(layout, behind)]
-    return None if None in made else term_of(head, made)
+    return term_of(head, [as_term(item) if sign == "t" else item for sign, item in zip(layout, behind)])

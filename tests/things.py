@@ -85,10 +85,10 @@ def deep_things(deep):
     """Things that are so deep, of several makes."""
     found = []
     for wrap in (lambda t: [t], lambda t: (t,), lambda t: ("fun", ("num",), t), lambda t: ("fun", "x", t),
-                 lambda t: ("rec", (("a", t),), None), lambda t: ("rec", (("a", t),)), lambda t: (t, [t], None)[:2],
-                 lambda t: ("num", t), lambda t: ("any", t), lambda t: ("case", ("hole",), (("a", "x", t),))):
+                 lambda t: ("rec", (("a", t),), None), lambda t: ("rec", (("a", t),)), lambda t: ("num", t),
+                 lambda t: ("any", t), lambda t: ("case", ("hole",), (("a", "x", t),)), lambda t: [0, (t, None)]):
         thing = "a"
-        for _ in range(min(deep, 12) if wrap(0) == (0, [0]) else deep):
+        for _ in range(deep):
             thing = wrap(thing)
         found.append(thing)
     return found
