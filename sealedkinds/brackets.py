@@ -4,23 +4,24 @@
 def read_brackets(text, close):
     """The one thing that stands in the text: a word, or what close makes of a bracket; None where there's none.
 
-    Of each bracket, inner ones first, close gets the list of the words and of what it made of the brackets in it;
-    it tells None where it can make nothing. Texts that are written a little otherwise may be read likewise:
-    who needs just one writing writes the thing again and compares.
+    Of each bracket, inner ones first, close gets the list of the words and of what it made of the brackets in it,
+    led by a word; it tells None where it can make nothing. A word may be empty, or hold brackets where none may stand:
+    who takes no such words reads just the texts in which all is parted by one blank.
     """
-    levels = [[]]
-    for chunk in text.split(" "):
-        word = chunk
-        if chunk.startswith("("):
-            levels.append([])
-            word = chunk[1:]
-        bare = word.rstrip(")")
-        levels[-1].append(bare)
-        for _ in range(len(word) - len(bare)):
-            made = close(levels.pop())
-            if made is None or not levels:
+    around = []
+    items = []
+    for word in text.replace(")", " )").split(" "):
+        if word == ")":
+            made = close(items) if around else None
+            if made is None:
                 return None
-            levels[-1].append(made)
-    if len(levels) != 1 or len(levels[0]) != 1:
+            items = around.pop()
+            items.append(made)
+        elif word.startswith("("):
+            around.append(items)
+            items = [word[1:]]
+        else:
+            items.append(word)
+    if around or len(items) != 1:
         return None
-    return levels[0][0]
+    return items[0]

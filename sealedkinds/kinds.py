@@ -99,29 +99,64 @@ def numbers_in(kind):
             found.append(part)
         elif part[0] == "any":
             found.append(part[1])
-        else:
-            if part[0] in ("rec", "sum") and part[2] is not None:
+        elif part[0] == "fun":
+            todo.append(part[2])
+            todo.append(part[1])
+        elif part[0] == "rec" or part[0] == "sum":
+            if part[2] is not None:
                 todo.append(part[2])
-            todo.extend(kind_parts(part)[::-1])
+            for pair in part[1][::-1]:
+                todo.append(pair[1])
     return found
+
+
+def is_told(kind):
+    """Whether its numbers go from 0 on as they first come from left to right."""
+    many = 0
+    for number in numbers_in(kind):
+        if number > many:
+            return False
+        if number == many:
+            many += 1
+    return True
 
 
 def told(kind):
     """The kind with numbers anew, from 0 on as they first come from left to right."""
+    if is_told(kind):
+        return kind
     numbers = {}
-    for number in numbers_in(kind):
-        numbers.setdefault(number, len(numbers))
-    return folded(kind, kind_parts, lambda part, parts: renumbered(part, parts, numbers))
+    made = []
+    todo = [kind]
+    while todo:
+        part = todo.pop()
+        head = part[0]
+        if head == "any":
+            made.append(("any", numbers.setdefault(part[1], len(numbers))))
+        elif head == "num" or head == "own":
+            made.append(part)
+        elif head == "end":
+            end_told(part[1], made, numbers)
+        else:
+            # The mark behind its parts of what then can be made of them.
+            todo.append(("end", part))
+            todo.extend(kind_parts(part)[::-1])
+    return made[0]
 
 
-def renumbered(kind, parts, numbers):
-    """The kind with other parts, and with the number told for the one straight in it."""
-    if kind[0] == "any":
-        return ("any", numbers[kind[1]])
-    made = with_kinds(kind, parts)
-    if kind[0] in ("rec", "sum") and kind[2] is not None:
-        return (kind[0], made[1], numbers[kind[2]])
-    return made
+def end_told(kind, made, numbers):
+    """Puts the told kind in the place of its told parts, which are the last ones made."""
+    if kind[0] == "fun":
+        right = made.pop()
+        made[-1] = ("fun", made[-1], right)
+        return
+    start = len(made) - len(kind[1])
+    pairs = [(pair[0], part) for pair, part in zip(kind[1], made[start:])]
+    del made[start:]
+    rest = kind[2]
+    if rest is not None:
+        rest = numbers.setdefault(rest, len(numbers))
+    made.append((kind[0], tuple(pairs), rest))
 
 
 def owns_in(kind):

@@ -2,8 +2,8 @@
 
 from sealedkinds.brackets import read_brackets
 from sealedkinds.errors import BadText
-from sealedkinds.kinds import is_kind, kind_parts
-from sealedkinds.names import figures_of, number_in
+from sealedkinds.kinds import kind_parts, stands_as_before
+from sealedkinds.names import are_rising_names, figures_of, is_name, number_in
 from sealedkinds.walking import folded
 
 
@@ -39,43 +39,54 @@ def star_text(number):
 
 def kind_in(text):
     """The kind of which this is the text; BadText(text)."""
-    # What is read may be no kind, or a kind with another text: it is looked at here alone.
-    thing = as_kind(read_brackets(text, bracket_kind))
-    if not is_kind(thing) or kind_text(thing) != text:
+    kind = read_kind(text)
+    if kind is None:
         raise BadText(text)
-    return thing
+    return kind
 
 
-def as_kind(item):
-    """What a word stands for, perhaps no kind; what is no word, as it is."""
+def read_kind(text):
+    """The kind of which this is the text; None where there's none."""
+    ways = {}
+    return as_kind(read_brackets(text, lambda items: bracket_kind(items, ways)), ways)
+
+
+def as_kind(item, ways):
+    """The kind for which a word stands, None where it stands for none; what is no word, as it is.
+
+    Its number has to stand as in the ways met so far, which then know it.
+    """
     if not isinstance(item, str):
         return item
     if item == "num":
         return ("num",)
     if item.startswith("*"):
-        return ("any", number_in(item[1:]))
+        kind = ("any", number_in(item[1:]))
+        return kind if kind[1] is not None and stands_as_before(kind, ways) else None
     module, _, name = item.partition(".")
-    return ("own", module, name)
+    return ("own", module, name) if is_name(module) and is_name(name) else None
 
 
-def bracket_kind(items):
-    """What a bracket of these stands for, perhaps no kind; None where that's plain."""
+def bracket_kind(items, ways):
+    """The kind for which a bracket of these stands, None where it stands for none; numbers likewise."""
     head = items[0]
-    behind = items[1:]
-    if head == "fun":
-        return ("fun", *[as_kind(item) for item in behind])
-    if head == "rec" or head == "sum":
-        return bracket_row(head, behind)
-    return None
-
-
-def bracket_row(head, items):
-    """Likewise the rec or sum of labels and kinds in turn, and perhaps a rest behind them."""
+    if head == "fun" and len(items) == 3:
+        left = as_kind(items[1], ways)
+        right = as_kind(items[2], ways)
+        return None if left is None or right is None else (head, left, right)
+    if head != "rec" and head != "sum":
+        return None
     rest = None
-    if len(items) % 2 == 1:
-        last = as_kind(items[-1])
-        if last[0] != "any":
+    if len(items) % 2 == 0:
+        last = items.pop()
+        if not isinstance(last, str) or not last.startswith("*"):
             return None
-        rest = last[1]
-    parts = [as_kind(item) for item in items[1::2]]
-    return (head, tuple(zip(items[::2], parts)), rest)
+        rest = number_in(last[1:])
+        if rest is None:
+            return None
+    labels = items[1::2]
+    parts = [as_kind(item, ways) for item in items[2::2]]
+    kind = (head, tuple(zip(labels, parts)), rest)
+    if None in parts or not are_rising_names(labels) or (head == "sum" and not labels):
+        return None
+    return kind if stands_as_before(kind, ways) else None

@@ -1,5 +1,8 @@
 """Names, numbers, figures and rows of labels, for kinds and terms alike."""
 
+LETTERS = "abcdefghijklmnopqrstuvwxyz"
+FIGURES = "0123456789"
+
 # Python's own str and int refuse numbers of many thousand figures: longer ones go block by block.
 BLOCK = 1000000000000000000
 BLOCK_LENGTH = 18
@@ -12,14 +15,20 @@ def is_number(thing):
 
 def is_name(thing):
     """Whether it is a text of one to eight letters a to z."""
-    if not isinstance(thing, str) or not 1 <= len(thing) <= 8:
-        return False
-    return all(["a" <= sign <= "z" for sign in thing])
+    return isinstance(thing, str) and 1 <= len(thing) <= 8 and not thing.strip(LETTERS)
 
 
 def rises(things):
     """Whether each of them is greater than the one ahead of it."""
-    return all([one < other for one, other in zip(things, things[1:])])
+    for one, other in zip(things, things[1:]):
+        if one >= other:
+            return False
+    return True
+
+
+def are_rising_names(things):
+    """Whether all are names, each greater than the one ahead of it."""
+    return all([is_name(thing) for thing in things]) and rises(things)
 
 
 def is_row(thing, width):
@@ -44,10 +53,10 @@ def figures_of(number):
 
 def number_in(text):
     """The number that stands there in figures, without a nought ahead; None where none does."""
-    if not text or not all(["0" <= sign <= "9" for sign in text]):
+    if not text or text.strip(FIGURES) or (text[0] == "0" and text != "0"):
         return None
-    if text != "0" and text.startswith("0"):
-        return None
+    if len(text) <= BLOCK_LENGTH:
+        return int(text)
     first = len(text) % BLOCK_LENGTH
     number = int("0" + text[:first])
     for start in range(first, len(text), BLOCK_LENGTH):

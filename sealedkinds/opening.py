@@ -6,62 +6,68 @@ from sealedkinds.walking import alike
 
 def comes_to(kind, other):
     """Whether the kind comes to the other one."""
-    return put_for(kind, other) is not None
+    return puts_for(kind, other) is not None
 
 
 def put_for(kind, other):
     """The rising list of (number, what is put for it), by which the kind comes to the other; None where it doesn't."""
+    puts = puts_for(kind, other)
+    return None if puts is None else [(number, puts[number]) for number in sorted(puts)]
+
+
+def puts_for(kind, other):
+    """Likewise, as a dict of what is put by numbers."""
     puts = {}
     todo = [(kind, other)]
     while todo:
         one, two = todo.pop()
-        inner = put_straight(one, two, puts)
-        if inner is None:
+        head = one[0]
+        if head == "any":
+            if not put_alike(puts, one[1], two):
+                return None
+        elif head != two[0]:
             return None
-        todo.extend(inner)
-    return [(number, puts[number]) for number in sorted(puts)]
+        elif head == "fun":
+            todo.append((one[1], two[1]))
+            todo.append((one[2], two[2]))
+        elif head == "rec" or head == "sum":
+            if not put_row(one, two, puts, todo):
+                return None
+        elif one != two:
+            return None
+    return puts
 
 
-def put_straight(kind, other, puts):
-    """The pairs of parts that have to come to one another; None where the kind can't come to the other.
+def put_row(kind, other, puts, todo):
+    """Puts for the rest of a rec or a sum what the other has more, and adds the parts that have to come to others.
 
-    What has to be put for the number straight in the kind is then in puts.
+    Whether that can be.
     """
-    head = kind[0]
-    if head == "any":
-        return [] if put_alike(puts, kind[1], other) else None
-    if head != other[0]:
-        return None
-    if head == "fun":
-        return [(kind[1], other[1]), (kind[2], other[2])]
-    if head == "rec" or head == "sum":
-        return put_row(kind, other, puts)
-    return [] if kind == other else None
-
-
-def put_row(kind, other, puts):
-    """Likewise of two recs or two sums."""
     mine = dict(kind[1])
-    yours = dict(other[1])
-    more = tuple([pair for pair in other[1] if pair[0] not in mine])
-    if len(more) + len(mine) != len(yours):
-        return None
-    if kind[2] is not None:
-        if not put_alike(puts, kind[2], (more, other[2])):
-            return None
-    elif more or other[2] is not None:
-        return None
-    return [(mine[label], yours[label]) for label in mine]
+    more = []
+    for pair in other[1]:
+        if pair[0] in mine:
+            todo.append((mine[pair[0]], pair[1]))
+        else:
+            more.append(pair)
+    if len(more) + len(mine) != len(other[1]):
+        return False
+    if kind[2] is None:
+        return not more and other[2] is None
+    return put_alike(puts, kind[2], (tuple(more), other[2]))
 
 
 def put_alike(puts, number, what):
     """Whether this may be put for the number, as what was put for it; puts then know it."""
-    return alike(puts.setdefault(number, what), what)
+    if number in puts:
+        return alike(puts[number], what)
+    puts[number] = what
+    return True
 
 
 def meet(kind, other):
     """The told kind to which both come, as open as can be, numbers of the two being apart; None where there's none."""
-    solver = Solver()
+    solver = Solver(0)
     node = solver.brought(kind)
     if not solver.equal(node, solver.brought(other)):
         return None

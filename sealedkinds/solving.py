@@ -1,13 +1,14 @@
 """Kinds under way: a graph of nodes, made equal by pairs, as open as can be."""
 
-from sealedkinds.kinds import kind_parts
-from sealedkinds.walking import folded
+NUM = 0
+LEAF = (1, 1)
 
 
 class Solver:
     """Nodes, each for a kind that is as yet open or known to its parts, and rests of recs and sums.
 
-    A node's shape is None while it is open, else the kind's tuple with nodes for the kinds straight in it,
+    A node that is equal to another one links to it; one that links to itself stands for all that lead to it.
+    Its shape is None while it is open, else the kind's tuple with nodes for the kinds straight in it,
     of a rec or a sum (head, dict of label and node, rest). A rest is a number of its own or None;
     it is open, or is known to be more labels and another rest.
 
@@ -15,20 +16,19 @@ class Solver:
     So a rest is never asked for a label that it stands behind.
     """
 
-    def __init__(self):
-        self.links = []
-        self.shapes = []
+    def __init__(self, many):
+        """The node of num, and so many open ones behind it."""
+        self.links = list(range(1 + many))
+        self.shapes = [None] * (1 + many)
+        self.shapes[NUM] = ("num",)
         self.rests = []
 
     def made(self, shape):
         """A new node of that shape."""
-        self.links.append(len(self.links))
+        node = len(self.links)
+        self.links.append(node)
         self.shapes.append(shape)
-        return len(self.links) - 1
-
-    def fresh(self):
-        """A new open node."""
-        return self.made(None)
+        return node
 
     def fresh_rest(self):
         """A new open rest."""
@@ -38,162 +38,228 @@ class Solver:
     def brought(self, kind):
         """A node of that kind, its numbers apart from all others."""
         numbers = {}
-        return folded(kind, kind_parts, lambda part, nodes: self.made_of(part, nodes, numbers))
+        todo = []
+        top = self.placed(kind, numbers, todo)
+        while todo:
+            part, node = todo.pop()
+            head = part[0]
+            if head == "fun":
+                left = self.placed(part[1], numbers, todo)
+                self.shapes[node] = (head, left, self.placed(part[2], numbers, todo))
+            else:
+                rest = part[2]
+                if rest is not None:
+                    if rest not in numbers:
+                        numbers[rest] = self.fresh_rest()
+                    rest = numbers[rest]
+                pairs = {label: self.placed(inner, numbers, todo) for label, inner in part[1]}
+                self.shapes[node] = (head, pairs, rest)
+        return top
 
-    def made_of(self, kind, nodes, numbers):
-        """A node of that kind by the nodes of its parts, its number as numbers tells, which then know it."""
+    def placed(self, kind, numbers, todo):
+        """A node for the kind, its number as numbers tells, which then know it; what has parts is left to do."""
         head = kind[0]
+        if head == "num":
+            return NUM
         if head == "any":
             if kind[1] not in numbers:
-                numbers[kind[1]] = self.fresh()
+                numbers[kind[1]] = self.made(None)
             return numbers[kind[1]]
-        if head == "fun":
-            return self.made(("fun", nodes[0], nodes[1]))
-        if head == "num" or head == "own":
-            return self.made(kind)
-        rest = kind[2]
-        if rest is not None and rest not in numbers:
-            numbers[rest] = self.fresh_rest()
-        labels = [pair[0] for pair in kind[1]]
-        return self.made((head, dict(zip(labels, nodes)), None if rest is None else numbers[rest]))
+        node = self.made(kind)
+        if head != "own":
+            todo.append((kind, node))
+        return node
 
     def root(self, node):
         """The node that stands for all that are equal to this one."""
-        top = node
-        while self.links[top] != top:
-            top = self.links[top]
-        self.links[node] = top
-        return top
+        links = self.links
+        while links[node] != node:
+            node = links[node]
+        return node
 
     def equal(self, one, other):
         """Makes two nodes equal; whether they can be, but for kinds within themselves."""
+        links = self.links
+        shapes = self.shapes
         todo = [(one, other)]
         while todo:
-            pair = todo.pop()
-            left = self.root(pair[0])
-            right = self.root(pair[1])
-            if left != right:
-                inner = self.joined(left, right)
-                if inner is None:
-                    return False
-                todo.extend(inner)
+            left, right = todo.pop()
+            while links[left] != left:
+                left = links[left]
+            while links[right] != right:
+                right = links[right]
+            if left == right:
+                continue
+            if shapes[right] is None:
+                links[right] = left
+            elif shapes[left] is None:
+                links[left] = right
+            elif not self.joined(left, right, todo):
+                return False
         return True
 
-    def joined(self, left, right):
-        """Joins two roots; the pairs of nodes that then have to be equal, None where the two can't be."""
+    def joined(self, left, right, todo):
+        """Joins two roots that have shapes, and adds the pairs that then have to be equal; whether they can be."""
         one = self.shapes[left]
         other = self.shapes[right]
-        if other is None:
-            self.links[right] = left
-            return []
+        head = one[0]
+        if head != other[0]:
+            return False
+        if head == "fun":
+            todo.append((one[2], other[2]))
+            todo.append((one[1], other[1]))
+        elif head == "own":
+            if one != other:
+                return False
+        elif head != "num":
+            return self.rows_joined(left, right, todo)
         self.links[left] = right
-        if one is None:
-            return []
-        if one[0] != other[0]:
-            return None
-        if one[0] == "fun":
-            return [(one[1], other[1]), (one[2], other[2])]
-        if one[0] in ("rec", "sum"):
-            return self.rows_joined(one, other)
-        return [] if one == other else None
+        return True
 
-    def rows_joined(self, one, other):
-        """Likewise of the shapes of two recs or two sums."""
-        mine, end = self.row_of(one)
-        yours, stop = self.row_of(other)
-        only_mine = {label: mine[label] for label in mine if label not in yours}
-        only_yours = {label: yours[label] for label in yours if label not in mine}
+    def rows_joined(self, left, right, todo):
+        """Likewise of two recs or two sums."""
+        _, mine, end = self.row(left)
+        _, yours, stop = self.row(right)
+        only_mine = {}
+        for label in mine:
+            if label in yours:
+                todo.append((mine[label], yours[label]))
+            else:
+                only_mine[label] = mine[label]
+        only_yours = {}
+        if len(mine) - len(only_mine) < len(yours):
+            only_yours = {label: yours[label] for label in yours if label not in mine}
         if (end is None and only_yours) or (stop is None and only_mine):
-            return None
+            return False
         if end != stop:
             rest = None if end is None or stop is None else self.fresh_rest()
             if end is not None:
                 self.rests[end] = (only_yours, rest)
             if stop is not None:
                 self.rests[stop] = (only_mine, rest)
-        return [(mine[label], yours[label]) for label in mine if label in yours]
+        self.links[left] = right
+        return True
 
-    def row_of(self, shape):
-        """The nodes of all labels known of a rec or sum, and the open rest behind them, or None."""
-        pairs = dict(shape[1])
+    def row(self, node):
+        """The shape of a root that is a rec or a sum, with all labels known and the open rest behind them, or None."""
+        shape = self.shapes[node]
         rest = shape[2]
+        if rest is None or self.rests[rest] is None:
+            return shape
+        pairs = dict(shape[1])
         while rest is not None and self.rests[rest] is not None:
             more, rest = self.rests[rest]
             pairs.update(more)
-        return pairs, rest
+        self.shapes[node] = (shape[0], pairs, rest)
+        return self.shapes[node]
+
+    def field(self, head, node, label):
+        """The node at that label, where the node is made a rec or a sum that has it; None where it can't be one."""
+        top = self.root(node)
+        shape = self.shapes[top]
+        if shape is None:
+            inside = self.made(None)
+            self.shapes[top] = (head, {label: inside}, self.fresh_rest())
+            return inside
+        if shape[0] != head:
+            return None
+        _, pairs, rest = self.row(top)
+        if label in pairs:
+            return pairs[label]
+        if rest is None:
+            return None
+        inside = self.made(None)
+        self.rests[rest] = ({label: inside}, self.fresh_rest())
+        return inside
 
     def inner(self, node):
-        """The roots of the kinds straight in a root's, from left to right."""
+        """The nodes of the kinds straight in a root's, from left to right."""
         shape = self.shapes[node]
         if shape is None or shape[0] == "num" or shape[0] == "own":
             return []
         if shape[0] == "fun":
-            return [self.root(shape[1]), self.root(shape[2])]
-        pairs, _ = self.row_of(shape)
-        return [self.root(pairs[label]) for label in sorted(pairs)]
+            return [shape[1], shape[2]]
+        pairs = self.row(node)[1]
+        return [pairs[label] for label in sorted(pairs)]
 
-    def ordered(self, nodes):
-        """The roots of the nodes and all in them, each once, parts ahead of wholes, from left to right.
-
-        None where a kind would be within itself.
-        """
-        ended = {}
-        found = []
-        todo = [self.root(node) for node in nodes[::-1]]
-        while todo:
-            node = todo[-1]
-            if node not in ended:
-                ended[node] = False
-                for part in self.inner(node)[::-1]:
-                    if part not in ended:
-                        todo.append(part)
-                    elif not ended[part]:
-                        return None
-            else:
-                todo.pop()
-                if not ended[node]:
-                    ended[node] = True
-                    found.append(node)
-        return found
-
-    def within(self, nodes, size, deep):
+    def within(self, nodes, wide, deep):
         """Whether the kinds of all these nodes have at most so many things and are at most so deep."""
-        found = self.ordered(nodes)
-        if found is None:
-            return False
-        sizes = {}
-        depths = {}
-        for node in found:
-            parts = self.inner(node)
-            sizes[node] = 1 + sum([sizes[part] for part in parts])
-            depths[node] = 1 + max([depths[part] for part in parts], default=0)
-        return max(sizes.values(), default=0) <= size and max(depths.values(), default=0) <= deep
+        measures = {}
+        for node in nodes:
+            measure = self.measure(node, wide, deep, measures)
+            if measure is None or measure[1] > deep:
+                return False
+        return True
+
+    def measure(self, node, wide, left, measures):
+        """How great and how deep the kind of the node is; None where it's too great, or deeper than is left.
+
+        A kind within itself is deeper than any. What has been told is in measures, by roots.
+        """
+        links = self.links
+        while links[node] != node:
+            node = links[node]
+        if node in measures:
+            return measures[node]
+        if left == 0:
+            return None
+        shape = self.shapes[node]
+        if shape is None or shape[0] == "num" or shape[0] == "own":
+            measures[node] = LEAF
+            return LEAF
+        size = 1
+        deepest = 0
+        for part in self.inner(node):
+            measure = self.measure(part, wide, left - 1, measures)
+            if measure is None:
+                return None
+            size += measure[0]
+            deepest = max(deepest, measure[1])
+        if size > wide:
+            return None
+        measures[node] = (size, 1 + deepest)
+        return measures[node]
 
     def kinds_of(self, nodes):
         """The list of the kinds of these nodes, numbers from 0 on as they first come in all of it.
 
         None where a kind would be within itself.
         """
-        found = self.ordered(nodes)
-        if found is None:
-            return None
         kinds = {}
         numbers = {}
-        for node in found:
-            kinds[node] = self.kind_by(node, kinds, numbers)
+        parts = {}
+        todo = [self.root(node) for node in nodes[::-1]]
+        while todo:
+            node = todo.pop()
+            if node < 0:
+                # The mark of a root whose parts are all known by now.
+                kinds[~node] = self.kind_by(~node, [kinds[part] for part in parts[~node]], numbers)
+            elif node not in kinds:
+                inner = [self.root(part) for part in self.inner(node)]
+                if not inner:
+                    kinds[node] = self.kind_by(node, inner, numbers)
+                    continue
+                # None: it's under way.
+                kinds[node] = None
+                parts[node] = inner
+                todo.append(~node)
+                for part in inner[::-1]:
+                    if part not in kinds:
+                        todo.append(part)
+                    elif kinds[part] is None:
+                        return None
         return [kinds[self.root(node)] for node in nodes]
 
-    def kind_by(self, node, kinds, numbers):
+    def kind_by(self, node, parts, numbers):
         """The kind of a root by the kinds of its parts, numbered as numbers tells, which then know it."""
         shape = self.shapes[node]
         if shape is None:
             return ("any", numbers.setdefault(("any", node), len(numbers)))
         if shape[0] == "num" or shape[0] == "own":
             return shape
-        parts = [kinds[part] for part in self.inner(node)]
         if shape[0] == "fun":
             return ("fun", parts[0], parts[1])
-        pairs, rest = self.row_of(shape)
+        _, pairs, rest = shape
         if rest is not None:
             rest = numbers.setdefault(("rest", rest), len(numbers))
         return (shape[0], tuple(zip(sorted(pairs), parts)), rest)

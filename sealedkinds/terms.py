@@ -12,6 +12,16 @@ LAYOUTS = {
     "add": "tt", "less": "tt", "times": "tt", "under": "tttt", "get": "tn", "put": "tnt", "tag": "nt",
 }
 
+# Where in it terms and names stand, but for rec and case.
+TERMS_AT = {
+    "num": (), "name": (), "from": (), "hole": (), "fun": (2,), "call": (1, 2), "add": (1, 2), "less": (1, 2),
+    "times": (1, 2), "under": (1, 2, 3, 4), "get": (1,), "put": (1, 3), "tag": (2,),
+}
+NAMES_AT = {
+    "num": (), "name": (1,), "from": (1, 2), "hole": (), "fun": (1,), "call": (), "add": (), "less": (),
+    "times": (), "under": (), "get": (2,), "put": (2,), "tag": (1,),
+}
+
 
 def layout_of(head, many):
     """The layout of so many things behind that head; another length where there can't be so many, or no such head."""
@@ -42,8 +52,12 @@ def term_of(head, items):
 
 def term_parts(term):
     """The terms straight in a term, from left to right."""
-    items = items_of(term)
-    return [item for sign, item in zip(layout_of(term[0], len(items)), items) if sign == "t"]
+    head = term[0]
+    if head == "rec":
+        return [pair[1] for pair in term[1]]
+    if head == "case":
+        return [term[1]] + [way[2] for way in term[2]]
+    return [term[k] for k in TERMS_AT[head]]
 
 
 def with_items(term, parts):
@@ -55,15 +69,6 @@ def with_items(term, parts):
             items[k] = parts[at]
             at += 1
     return items
-
-
-def bound_in(term):
-    """Of each of the terms straight in it the name that is bound ahead of that one, or None."""
-    if term[0] == "fun":
-        return [term[1]]
-    if term[0] == "case":
-        return [None] + [way[1] for way in term[2]]
-    return [None for _ in term_parts(term)]
 
 
 def is_term(thing):
@@ -85,40 +90,64 @@ def is_made_as_term(thing):
     if head == "rec":
         return len(thing) == 2 and is_row(thing[1], 2)
     if head == "case":
-        return len(thing) == 3 and is_row(thing[2], 3) and len(thing[2]) > 0 and has_names(thing)
+        return len(thing) == 3 and is_row(thing[2], 3) and len(thing[2]) > 0 and binds_names(thing)
+    if head not in LAYOUTS or len(thing) != 1 + len(LAYOUTS[head]):
+        return False
     if head == "num":
-        return len(thing) == 2 and is_number(thing[1]) and 0 <= thing[1] <= MOST
-    return head in LAYOUTS and len(thing) == 1 + len(LAYOUTS[head]) and has_names(thing)
+        return is_number(thing[1]) and 0 <= thing[1] <= MOST
+    for k in NAMES_AT[head]:
+        if not is_name(thing[k]):
+            return False
+    return True
 
 
-def has_names(term):
-    """Whether there are names where names and labels stand."""
-    items = items_of(term)
-    return all([is_name(item) for sign, item in zip(layout_of(term[0], len(items)), items) if sign == "n"])
+def binds_names(case):
+    """Whether each of its ways has a name where one is bound."""
+    return all([is_name(way[1]) for way in case[2]])
 
 
-def scoped(term):
-    """The list, in order of places, of (place, part, scope).
+def bindings(term, first):
+    """The list, in order of places, of (part, which) for each place.
 
-    The scope is a dict of the names that are bound there; each tells the place of the term ahead of which it is bound.
+    What is bound by the ways of a case and by funs has numbers from first on. Which, of a name, is the number of what
+    binds it, None where nothing does; of a fun and of a case the number of what it binds, of its first way; else None.
     """
     found = []
-    todo = [((), term, {})]
+    free = first
+    todo = [(term, {})]
     while todo:
-        place, part, scope = todo.pop()
-        found.append((place, part, scope))
-        for k, (name, inner) in enumerate(zip(bound_in(part), term_parts(part))):
-            around = scope
-            if name is not None:
-                around = dict(scope)
-                around[name] = place + (k,)
-            todo.append((place + (k,), inner, around))
+        part, scope = todo.pop()
+        head = part[0]
+        which = None
+        if head == "name":
+            which = scope.get(part[1])
+        elif head == "fun":
+            which = free
+            free += 1
+            todo.append((part[2], {**scope, part[1]: which}))
+        elif head == "case":
+            which = free
+            free += len(part[2])
+            todo.append((part[1], scope))
+            for number, way in enumerate(part[2], start=which):
+                todo.append((way[2], {**scope, way[1]: number}))
+        else:
+            for inner in term_parts(part):
+                todo.append((inner, scope))
+        found.append((part, which))
     return found[::-1]
 
 
 def places_of(term):
     """The list of all places, those in a part ahead of its whole, parts from left to right."""
-    return [spot[0] for spot in scoped(term)]
+    found = []
+    todo = [((), term)]
+    while todo:
+        place, part = todo.pop()
+        found.append(place)
+        for k, inner in enumerate(term_parts(part)):
+            todo.append((place + (k,), inner))
+    return found[::-1]
 
 
 def things_in(term):
@@ -156,9 +185,9 @@ def way_to(term, place):
 def named_in(term):
     """The list, in order of places, of (place, what) of names that aren't bound, and of froms."""
     found = []
-    for place, part, scope in scoped(term):
+    for place, (part, which) in zip(places_of(term), bindings(term, 0)):
         if part[0] == "from":
             found.append((place, (part[1], part[2])))
-        elif part[0] == "name" and part[1] not in scope:
+        elif part[0] == "name" and which is None:
             found.append((place, part[1]))
     return found

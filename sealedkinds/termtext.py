@@ -2,12 +2,14 @@
 
 from sealedkinds.brackets import read_brackets
 from sealedkinds.errors import BadText
-from sealedkinds.names import number_in
-from sealedkinds.terms import is_term, layout_of, term_of, term_parts, with_items
+from sealedkinds.names import is_name, number_in
+from sealedkinds.terms import MOST, is_made_as_term, layout_of, term_of, term_parts, with_items
 from sealedkinds.walking import folded
 
 # Longer figures than these can't stand in a term, so they needn't be read.
 MOST_FIGURES = 5
+# Heads whose texts stand in no brackets.
+BARE = ("num", "name", "from", "hole")
 
 
 def term_text(term):
@@ -31,34 +33,43 @@ def text_by_parts(term, texts):
 
 def term_in(text):
     """The term of which this is the text; BadText(text)."""
-    # What is read may be no term, or a term with another text: it is looked at here alone.
-    thing = as_term(read_brackets(text, bracket_term))
-    if not is_term(thing) or term_text(thing) != text:
+    term = read_term(text)
+    if term is None:
         raise BadText(text)
-    return thing
+    return term
+
+
+def read_term(text):
+    """The term of which this is the text; None where there's none."""
+    return as_term(read_brackets(text, bracket_term))
 
 
 def as_term(item):
-    """What a word stands for, perhaps no term; what is no word, as it is."""
+    """The term for which a word stands, None where it stands for none; what is no word, as it is."""
     if not isinstance(item, str):
         return item
+    if is_name(item):
+        return ("name", item)
     if item == "?":
         return ("hole",)
-    if item[:1].isdigit():
-        return ("num", number_in(item[:MOST_FIGURES + 1]))
     if "." in item:
         module, _, name = item.partition(".")
-        return ("from", module, name)
-    return ("name", item)
+        return ("from", module, name) if is_name(module) and is_name(name) else None
+    number = number_in(item) if len(item) <= MOST_FIGURES else None
+    return ("num", number) if number is not None and number <= MOST else None
 
 
 def bracket_term(items):
-    """What a bracket of these stands for, perhaps no term; None where that's plain."""
+    """The term for which a bracket of these stands, None where it stands for none."""
     head = items[0]
-    if not isinstance(head, str):
-        return None
     behind = items[1:]
     layout = layout_of(head, len(behind))
-    if len(layout) != len(behind):
+    if len(layout) != len(behind) or head in BARE:
         return None
-    return term_of(head, [as_term(item) if sign == "t" else item for sign, item in zip(layout, behind)])
+    for k, sign in enumerate(layout):
+        if sign == "t":
+            behind[k] = as_term(behind[k])
+            if behind[k] is None:
+                return None
+    term = term_of(head, behind)
+    return term if is_made_as_term(term) else None

@@ -13,12 +13,18 @@ def all_in(tree, parts_of):
 
 
 def folded(tree, parts_of, make):
-    """What make(part, what is made of its parts) makes of the tree, parts ahead of their wholes."""
+    """What make(part, what is made of its parts) makes of the tree, parts ahead of their wholes, from left to right."""
+    found = []
+    todo = [tree]
+    while todo:
+        part = todo.pop()
+        parts = parts_of(part)
+        found.append((part, len(parts)))
+        todo.extend(parts)
     made = []
-    for part in reversed(all_in(tree, parts_of)):
-        # Behind one another from the right, the parts lie with the leftmost on top.
-        start = len(made) - len(parts_of(part))
-        inner = made[start:][::-1]
+    for part, many in found[::-1]:
+        start = len(made) - many
+        inner = made[start:]
         del made[start:]
         made.append(make(part, inner))
     return made[0]

@@ -1,0 +1,91 @@
+"""Terms made ready to be looked at."""
+
+from sealedkinds.rules import RULES
+from sealedkinds.solving import Solver
+from sealedkinds.terms import bindings, places_of, term_parts
+
+# The node of the whole term in each solver, and the first one of what is bound.
+WHOLE = 1
+FIRST = 2
+
+
+class Looked:
+    """A term and what is known there, to be looked at in kinds of at most so many things, and at most so deep.
+
+    Spots has, in order of places, a pair (part, what) of each: what is the node of what a name stands for, or the kind
+    known of it, likewise of a from; of a fun and a case the node of the (first) name that it binds; else None.
+    Unknown is the number of the first spot, in order, of a name or a from that stands for nothing; None.
+    """
+
+    def __init__(self, term, known, own, wide, deep):
+        self.term = term
+        self.wide = wide
+        self.deep = deep
+        self.unknown = None
+        self.spots = []
+        kinds = {what: kind for what, kind in known}
+        for part, which in bindings(term, FIRST):
+            what = which
+            if which is None:
+                if part[0] == "name":
+                    what = WHOLE if part[1] == own else kinds.get(part[1])
+                elif part[0] == "from":
+                    what = kinds.get((part[1], part[2]))
+                if what is None and self.unknown is None and (part[0] == "name" or part[0] == "from"):
+                    self.unknown = len(self.spots)
+            self.spots.append((part, what))
+
+    def place(self, number):
+        """The place of the spot of that number."""
+        return places_of(self.term)[number]
+
+    def keep(self, chosen=None, many=None):
+        """Keeps the rules of the first so many spots, or of those of them that are chosen, a list of truths; else all.
+
+        Told is (solver, nodes, broken): a node of each of these spots, and the number of the one whose rule couldn't be
+        kept, but for kinds that are too great; None.
+        """
+        solver = Solver(1 + len(self.spots))
+        nodes = []
+        under_way = []
+        for part, what in self.spots[:many]:
+            if chosen is None or chosen[len(nodes)]:
+                rule = RULES[part[0]]
+                node = rule(solver, part, what, under_way)
+                if node is None:
+                    return solver, nodes, len(nodes)
+            else:
+                del under_way[len(under_way) - len(term_parts(part)):]
+                node = solver.made(None)
+            under_way.append(node)
+            nodes.append(node)
+        if len(nodes) == len(self.spots) and not solver.equal(WHOLE, nodes[-1]):
+            return solver, nodes, len(nodes) - 1
+        return solver, nodes, None
+
+    def can_keep(self, chosen=None, many=None):
+        """Whether these rules can be kept together, by kinds that aren't too great."""
+        solver, nodes, broken = self.keep(chosen, many)
+        return broken is None and solver.within(nodes, self.wide, self.deep)
+
+    def state(self):
+        """("kind", the told kind), or ("clash", the first place by which the rules can't be kept together)."""
+        solver, nodes, broken = self.keep()
+        if broken is None and solver.within(nodes, self.wide, self.deep):
+            return "kind", solver.kinds_of([nodes[-1]])[0]
+        return "clash", self.place(self.first_clash(broken))
+
+    def first_clash(self, broken):
+        """The number of the first spot by which the rules can't be kept together, where they can't.
+
+        Broken is told by keep. Ahead of it kinds may have become too great.
+        """
+        last = len(self.spots) - 1 if broken is None else broken
+        first = 0 if last > 0 and not self.can_keep(None, last) else last
+        while first < last:
+            middle = (first + last) // 2
+            if self.can_keep(None, middle + 1):
+                first = middle + 1
+            else:
+                last = middle
+        return last
