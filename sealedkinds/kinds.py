@@ -35,6 +35,23 @@ def is_kind(thing):
     return True
 
 
+def is_kind_within(thing, ways, wide, deep):
+    """Whether the thing is a kind of at most so many things, and at most so deep.
+
+    Its numbers have to stand as in the ways met so far, which then know them.
+    """
+    many = 0
+    todo = [(thing, 1)]
+    while todo:
+        part, level = todo.pop()
+        many += 1
+        if many > wide or level > deep or not is_made_as_kind(part) or not stands_as_before(part, ways):
+            return False
+        for inner in kind_parts(part):
+            todo.append((inner, level + 1))
+    return True
+
+
 def is_made_as_kind(thing):
     """Whether the thing is a kind if what stands where its parts stand are kinds."""
     if not isinstance(thing, tuple) or not thing:

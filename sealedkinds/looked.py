@@ -10,20 +10,20 @@ FIRST = 2
 
 
 class Looked:
-    """A term and what is known there, to be looked at in kinds of at most so many things, and at most so deep.
+    """A term to be looked at, in kinds of at most so many things and at most so deep.
 
-    Spots has, in order of places, a pair (part, what) of each: what is the node of what a name stands for, or the kind
-    known of it, likewise of a from; of a fun and a case the node of the (first) name that it binds; else None.
-    Unknown is the number of the first spot, in order, of a name or a from that stands for nothing; None.
+    Kinds is a dict of the kinds known there. Spots has, in order of places, a pair (part, what) of each: what is the
+    node of what a name stands for, or the kind known of it, likewise of a from; of a fun and a case the node of the
+    (first) name that it binds; else None. Unknown is the number of the first spot, in order, of a name or a from that
+    stands for nothing; None.
     """
 
-    def __init__(self, term, known, own, wide, deep):
+    def __init__(self, term, kinds, own, wide, deep):
         self.term = term
         self.wide = wide
         self.deep = deep
         self.unknown = None
         self.spots = []
-        kinds = {what: kind for what, kind in known}
         for part, which in bindings(term, FIRST):
             what = which
             if which is None:
@@ -71,17 +71,21 @@ class Looked:
     def state(self):
         """("kind", the told kind), or ("clash", the first place by which the rules can't be kept together)."""
         solver, nodes, broken = self.keep()
-        if broken is None and solver.within(nodes, self.wide, self.deep):
-            return "kind", solver.kinds_of([nodes[-1]])[0]
-        return "clash", self.place(self.first_clash(broken))
+        clash = self.first_clash(solver, nodes, broken)
+        if clash is not None:
+            return "clash", self.place(clash)
+        return "kind", solver.kinds_of([nodes[-1]])[0]
 
-    def first_clash(self, broken):
-        """The number of the first spot by which the rules can't be kept together, where they can't.
+    def first_clash(self, solver, nodes, broken):
+        """The number of the first spot by which the rules can't be kept together; None where they can.
 
-        Broken is told by keep. Ahead of it kinds may have become too great.
+        The three are told by keep, of all rules.
         """
+        if broken is None and solver.within(nodes, self.wide, self.deep):
+            return None
         last = len(self.spots) - 1 if broken is None else broken
-        first = 0 if last > 0 and not self.can_keep(None, last) else last
+        # Ahead of the rule that broke kinds may have become too great.
+        first = last if self.can_keep(None, last) else 0
         while first < last:
             middle = (first + last) // 2
             if self.can_keep(None, middle + 1):

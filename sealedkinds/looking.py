@@ -26,7 +26,7 @@ def can_be(term, known, places, *, own=None):
 
 def looked_over(term, known, own):
     """The term, ready to be looked at; Unknown(place)."""
-    looked = Looked(term, known, own, WIDE, DEEPEST)
+    looked = Looked(term, {what: kind for what, kind in known}, own, WIDE, DEEPEST)
     if looked.unknown is not None:
         raise Unknown(looked.place(looked.unknown))
     return looked

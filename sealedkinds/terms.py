@@ -138,6 +138,11 @@ def bindings(term, first):
     return found[::-1]
 
 
+def is_place(thing):
+    """Whether the thing is a tuple of numbers."""
+    return isinstance(thing, tuple) and all([is_number(item) for item in thing])
+
+
 def places_of(term):
     """The list of all places, those in a part ahead of its whole, parts from left to right."""
     found = []
