@@ -1,7 +1,9 @@
 """Modules made by a seeded chance, for the tests."""
 
+from sealedkinds.apart import states
 from sealedkinds.kinds import told
 from sealedkinds.kindtext import kind_in
+from sealedkinds.modules import face_of
 from sealedkinds.termtext import term_in
 from tests.things import chance_kind, chance_term
 
@@ -31,50 +33,51 @@ def chance_module(chance, name="m"):
     return (name, uses, seals, values, defs)
 
 
-# definitions of which modules may be made that often have no fault, and what may be told of them
-DEFS = tuple((term_in(text), tuple(kind_in(kind) for kind in kinds)) for text, kinds in (
-    ("7", ("num", "M.s", "*0")), ("(fun y y)", ("(fun *0 *0)", "(fun M.s M.s)", "(fun num M.s)", "(fun M.s num)", "(fun *0 *1)")),
-    ("(fun y (add y 1))", ("(fun num num)", "(fun M.s M.s)", "(fun num M.s)", "(fun *0 *0)")),
-    ("(fun y (rec a y b 1))", ("(fun *0 (rec a *0 b num))", "(fun M.t (rec a M.t b M.s))", "(fun num M.t)")),
-    ("(fun y (get y a))", ("(fun (rec a *0 *1) *0)", "(fun M.t num)", "(fun (rec a num) num)", "(fun (rec *1) num)")),
-    ("(fun y (tag a y))", ("(fun *0 (sum a *0 *1))", "(fun M.s (sum a M.s b num))", "(fun *0 (sum a *0))")),
-    ("(fun y (case y a z z b z 0))", ("(fun (sum a num b *0) num)", "(fun (sum a M.s b M.t) M.s)")),
-    ("(rec a 1 b 2)", ("(rec a num b num)", "M.t", "(rec a M.s b num)", "(rec a num)")),
-    ("(fun n (under n 1 0 (add 1 (call OWN n))))", ("(fun num num)", "(fun M.s num)")),
-    ("(call x 1)", ("num", "*0")), ("(call K.f x)", ("num", "K.s", "*0")), ("(rec a x b K.f)", ("*0",)), ("(add (rec) 1)", ("num",)),
-    ("(call K.g K.f)", ("num", "K.s", "K.t")), ("K.f", ("K.s", "num", "(fun num num)", "(fun *0 *0)", "(fun K.s K.s)", "(fun K.s num)")),
-    ("K.g", ("(rec a K.t)", "num", "(fun K.t num)")), ("(call K.h (call K.h 1))", ("num", "*0")), ("?", ("num", "*0", "M.s", "K.t")),
-) for text in (text.replace("K.", "k.").replace("OWN", "f"),) for kinds in (tuple(kind.replace("M.", "m.").replace("K.", "k.") for kind in kinds),))
+# definitions, most of which have a kind
+TEXTS = (
+    "7", "(fun y y)", "(fun y (add y 1))", "(fun y (rec a y b 1))", "(fun y (get y a))", "(fun y (tag a y))", "(rec a 1 b 2)", "?",
+    "(fun y (case y a z z b z 0))", "(fun n (under n 1 0 (add 1 (call OWN n))))", "(fun y (put y a 1))", "(fun y (fun z (call y (call y z))))",
+)
+# likewise, with what is known for K
+KNOWING = ("K", "K", "K", "(rec a K)", "(rec a K b K)", "(fun y K)", "(call (fun y y) K)", "(call K ?)", "(fun y (call K y))", "(add K 1)", "(get K a)", "(tag a K)", "(call K 1)")
+WRONG = ("(add (rec) 1)", "(call q 1)", "(call far.q 1)", "(rec a (call 1 1))")
 
 
-def with_names(thing, names):
-    """The term or kind with other names for what stands behind own, from and name."""
-    if not isinstance(thing, tuple):
-        return thing
-    if thing[:1] in (("own",), ("from",)):
-        return (thing[0], names.get(thing[1], thing[1]), thing[2])
-    if thing[:1] == ("name",):
-        return ("name", names.get("@" + thing[1], thing[1]))
-    return tuple(with_names(part, names) for part in thing)
+def with_own(chance, kind, name):
+    """The kind with seals of that module here and there, and with kinds for its numbers."""
+    if kind[0] == "any" and chance.random() < 0.1:
+        return chance.choice((("num",), ("own", name, "s"), ("rec", (), None)))
+    if kind == ("num",) and chance.random() < 0.3:
+        return ("own", name, "s")
+    if kind == ("rec", (("a", ("num",)), ("b", ("num",))), None) and chance.random() < 0.5:
+        return ("own", name, "t")
+    if kind[0] == "fun":
+        return ("fun", with_own(chance, kind[1], name), with_own(chance, kind[2], name))
+    if kind[0] in ("rec", "sum"):
+        pairs = tuple((label, with_own(chance, part, name)) for label, part in kind[1])
+        return (kind[0], pairs, None if chance.random() < 0.1 else kind[2])
+    return kind
 
 
-def likely_module(chance, name, uses):
-    """A module that often has no fault, by faces of the modules that it uses."""
-    seals = (("s", kind_in("num")), ("t", kind_in("(rec a num b num)")))[:chance.choice((2, 2, 2, 1, 0))]
-    defs, values = [], []
+def likely_module(chance, name, ahead):
+    """A module that often has no fault, by the faces of some of those ahead, which it uses."""
+    faces = [face_of(module) for module in chance.sample(ahead, chance.randint(0, min(2, len(ahead))))]
+    uses = [face[0] for face in faces] + (["far"] if chance.random() < 0.05 else [])
+    known = [f"{face[0]}.{x}" for face in faces for x, _ in face[2]]
+    defs = []
     for x in ("f", "g", "h", "x")[:chance.randint(1, 4)]:
-        term, kinds = chance.choice(DEFS)
-        names = {"m": name, "k": chance.choice(uses) if uses else "k", "@f": x}
-        if any(x == other for other, _ in defs):
-            continue
-        defs.append((x, with_names(term, names)))
-        if chance.random() < 0.7:
-            kind = with_names(chance.choice(kinds), names)
-            if has_seals(kind, name, [seal for seal, _ in seals]):
-                values.append((x, kind))
-    if chance.random() < 0.05:
-        values.append(("none", kind_in("num")))
-    return (name, tuple(sorted(uses)), tuple(seals), tuple(sorted(values)), tuple(defs))
+        text = chance.choice(WRONG if chance.random() < 0.04 else KNOWING if known and chance.random() < 0.6 else TEXTS)
+        defs.append((x, term_in(text.replace("OWN", x).replace("K", chance.choice(known or ["1"])))))
+        known.append(x)
+    seals = (("s", kind_in("num")), ("t", kind_in("(rec a num b num)")))[:chance.choice((2, 2, 2, 2, 1, 0))]
+    values = {}
+    for x, word, what in states((name, uses, (), (), defs), faces):
+        kind = told(with_own(chance, what if word == "kind" else chance_kind(chance, 2, numbers=0), name))
+        if chance.random() < 0.7 and has_seals(kind, name, [seal for seal, _ in seals]):
+            values[x] = kind
+    if chance.random() < 0.04:
+        values["none"] = kind_in("num")
+    return (name, tuple(sorted(uses)), seals, tuple(sorted(values.items())), tuple(defs))
 
 
 def has_seals(kind, name, seals):
@@ -89,9 +92,5 @@ def likely_whole(chance):
     """A whole of up to four modules, which may well have faults."""
     modules = []
     for name in ("a", "b", "c", "d")[:chance.randint(1, 4)]:
-        ahead = [module[0] for module in modules]
-        uses = chance.sample(ahead, chance.randint(0, min(2, len(ahead))))
-        if chance.random() < 0.1:
-            uses.append("far")
-        modules.append(likely_module(chance, name, uses))
+        modules.append(likely_module(chance, name, modules))
     return modules

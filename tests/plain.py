@@ -341,7 +341,8 @@ def term_text(term):
 class Look:
     """The equations of the rules of a term's places."""
 
-    def __init__(self, term, known, own):
+    def __init__(self, term, known, own, bounds=(100, 16)):
+        self.bounds = bounds
         self.fresh = counter(0)
         self.known = list(known)
         self.own = own
@@ -421,21 +422,21 @@ class Look:
         if puts is None:
             return None
         found = {place: after(kind, puts) for place, kind in self.at.items()}
-        if any(size_of(kind) > 100 or deep_of(kind) > 16 for kind in found.values()):
+        if any(size_of(kind) > self.bounds[0] or deep_of(kind) > self.bounds[1] for kind in found.values()):
             return None
         return found
 
 
-def kind_of(term, known, own=None):
+def kind_of(term, known, own=None, bounds=(100, 16)):
     """("kind", K), ("unknown", place) or ("clash", place)."""
     place = Look(term, known, own).unknown()
     if place is not None:
         return ("unknown", place)
     places = [spot[0] for spot in spots(term)]
-    found = Look(term, known, own).kinds(places)
+    found = Look(term, known, own, bounds).kinds(places)
     if found is not None:
         return ("kind", told(found[()]))
     for many in range(1, len(places) + 1):
-        if Look(term, known, own).kinds(places[:many]) is None:
+        if Look(term, known, own, bounds).kinds(places[:many]) is None:
             return ("clash", places[many - 1])
     raise AssertionError("no clash found")

@@ -112,8 +112,11 @@ def known_of_faces(module, faces):
 
 
 def states(module, faces):
-    known = known_of_faces(module, faces)
-    without = []
+    return states_by(module, known_of_faces(module, faces), [], (100, 16))
+
+
+def states_by(module, known, without, bounds):
+    known, without = list(known), list(without)
     found = []
     for x, term in module[4]:
         state = None
@@ -122,12 +125,12 @@ def states(module, faces):
             if part[0] not in ("name", "from") or what in [name for name, _ in scope] or what == x:
                 continue
             if what in without:
-                state = ("leans", what)
+                state = ("leans", part[-1])
             elif what not in [name for name, _ in known]:
                 state = ("unknown", place)
             if state is not None:
                 break
-        state = state or plain.kind_of(term, known, x)
+        state = state or plain.kind_of(term, known, x, bounds)
         found.append((x,) + state)
         if state[0] == "kind":
             known.append((x, state[1]))
@@ -162,3 +165,29 @@ def fault_of(module, faces):
 
 def face_of(module):
     return (module[0], tuple(seal for seal, _ in module[2]), module[3])
+
+
+def faults(modules):
+    found = [(module[0], fault_of(module, [face_of(other) for other in modules[:k]])) for k, module in enumerate(modules)]
+    return [(name, fault) for name, fault in found if fault is not None]
+
+
+def is_whole(thing):
+    if type(thing) is not list or not all(is_module(module) for module in thing):
+        return False
+    names = [module[0] for module in thing]
+    return len(set(names)) == len(names) and all(
+        use not in names or names.index(use) < k for k, module in enumerate(thing) for use in module[1])
+
+
+def whole_states(modules):
+    found = []
+    for module in modules:
+        known = [((m, x), what) for m, x, word, what in found if m in module[1] and word == "kind"]
+        without = [(m, x) for m, x, word, _ in found if m in module[1] and word != "kind"]
+        found += [(module[0],) + state for state in states_by(module, known, without, (800, 24))]
+    return found
+
+
+def all_opens(modules):
+    return {(module[0], seal): kind for module in modules for seal, kind in module[2]}

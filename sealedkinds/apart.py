@@ -1,0 +1,54 @@
+"""Modules looked at apart, by the faces of those that they use."""
+
+from sealedkinds.defining import defined_states
+from sealedkinds.kinds import opened, owns_in
+from sealedkinds.looking import DEEPEST, WIDE
+from sealedkinds.opening import comes_to
+
+
+def states(module, faces):
+    """A list of (x, word, what), one for each definition in order."""
+    known = {}
+    for name, _, values in faces:
+        if name in module[1]:
+            for x, kind in values:
+                known[(name, x)] = kind
+    return defined_states(module[4], known, {}, WIDE, DEEPEST)
+
+
+def fault_of(module, faces):
+    """None, or the first due pair (word, what)."""
+    owns = {name: names for name, names, _ in faces}
+    for name in module[1]:
+        if name not in owns:
+            return ("use", name)
+    for x, kind in module[3]:
+        if not is_in_sight(kind, module, owns):
+            return ("told", x)
+    kinds = {}
+    for x, word, what in states(module, faces):
+        if word != "kind":
+            return ("def", x)
+        kinds[x] = what
+    return value_fault(module, kinds)
+
+
+def is_in_sight(kind, module, owns):
+    """Whether all sealed kinds in it are the module's own, or stand in the owns of a face that it uses."""
+    name, uses, _, _, _ = module
+    for other, own in owns_in(kind):
+        if other != name and (other not in uses or own not in owns[other]):
+            return False
+    return True
+
+
+def value_fault(module, kinds):
+    """The first due of ("none", x) and ("closed", x), value by value, by the definitions' kinds; None."""
+    name, _, seals, values, _ = module
+    opens = [(name, seal, inside) for seal, inside in seals]
+    for x, kind in values:
+        if x not in kinds:
+            return ("none", x)
+        if not comes_to(opened(kinds[x], opens), opened(kind, opens)):
+            return ("closed", x)
+    return None
