@@ -233,7 +233,8 @@ class Solver:
             node = todo.pop()
             if node < 0:
                 # The mark of a root whose parts are all known by now.
-                kinds[~node] = self.kind_by(~node, [kinds[part] for part in parts[~node]], numbers)
+                whole = -1 - node
+                kinds[whole] = self.kind_by(whole, [kinds[part] for part in parts[whole]], numbers)
             elif node not in kinds:
                 inner = [self.root(part) for part in self.inner(node)]
                 if not inner:
@@ -242,7 +243,7 @@ class Solver:
                 # None: it's under way.
                 kinds[node] = None
                 parts[node] = inner
-                todo.append(~node)
+                todo.append(-1 - node)
                 for part in inner[::-1]:
                     if part not in kinds:
                         todo.append(part)
