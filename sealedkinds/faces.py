@@ -57,17 +57,10 @@ def user_of(name, kind, term):
 
 
 def fresh_name(names):
-    """A name that is none of these."""
+    """A name of two letters that is none of these."""
     number = 0
-    while letters_of(number) in names:
+    word = "aa"
+    while word in names:
         number += 1
-    return letters_of(number)
-
-
-def letters_of(number):
-    """The name of that number: a, b, .., z, aa, ba, .."""
-    word = LETTERS[number % 26]
-    while number >= 26:
-        number = number // 26 - 1
-        word += LETTERS[number % 26]
+        word = LETTERS[number // len(LETTERS)] + LETTERS[number % len(LETTERS)]
     return word

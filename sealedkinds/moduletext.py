@@ -52,7 +52,7 @@ def item_in(word, behind, found):
     """What stands behind the word, as a module has it; None where it isn't so written, or can't stand behind those."""
     if word == "module":
         return behind if is_name(behind) else None
-    name = found["module"][0] if word == "uses" or word == "tell" else None
+    name = found["module"][0]
     if word == "uses":
         uses = behind.split(" ")
         return tuple(uses) if are_rising_names(uses) and name not in uses else None

@@ -119,6 +119,10 @@ class BrokenUser(unittest.TestCase):
             module, faces = self.looked(old, (name, ("s",), (("x", NUM),)))
             self.assertNotIn(module[0], letters)
             self.assertEqual(sorted(other[0] for other in faces), sorted(set(letters) - {name}))
+        letters = [one + two for one in "abc" for two in letters]
+        pairs = tuple((name, ("own", name, "s")) for name in letters)
+        self.assertNotIn(self.looked(("m", (), (("x", ("rec", pairs, None)),)), ("m", (), ()))[0][0], letters)
+        self.assertNotEqual(self.looked(("aa", ("ab",), ()), ("aa", (), ()))[0][0], "aa")
         old = ("m", (), (("x", kind_in("(rec a a.s b a.t c b.s)")),))
         self.assertEqual(len(self.looked(old, ("m", (), ()))[1]), 2)
 
