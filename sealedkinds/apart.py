@@ -8,16 +8,34 @@ from sealedkinds.opening import comes_to
 
 def states(module, faces):
     """A list of (x, word, what), one for each definition in order."""
+    return defined_states(module[4], known_by(module, faces), {}, WIDE, DEEPEST)
+
+
+def known_by(module, faces):
+    """A dict of the kinds of the values, by (M, x), of the faces that the module uses."""
     known = {}
     for name, _, values in faces:
         if name in module[1]:
             for x, kind in values:
                 known[(name, x)] = kind
-    return defined_states(module[4], known, {}, WIDE, DEEPEST)
+    return known
 
 
 def fault_of(module, faces):
     """None, or the first due pair (word, what)."""
+    fault = sight_fault(module, faces)
+    if fault is not None:
+        return fault
+    kinds = {}
+    for x, word, what in states(module, faces):
+        if word != "kind":
+            return ("def", x)
+        kinds[x] = what
+    return value_fault(module, kinds)
+
+
+def sight_fault(module, faces):
+    """The first due of ("use", M) and ("told", x), which need no kinds of definitions; None."""
     owns = {name: names for name, names, _ in faces}
     for name in module[1]:
         if name not in owns:
@@ -25,12 +43,7 @@ def fault_of(module, faces):
     for x, kind in module[3]:
         if not is_in_sight(kind, module, owns):
             return ("told", x)
-    kinds = {}
-    for x, word, what in states(module, faces):
-        if word != "kind":
-            return ("def", x)
-        kinds[x] = what
-    return value_fault(module, kinds)
+    return None
 
 
 def is_in_sight(kind, module, owns):

@@ -30,6 +30,20 @@ def folded(tree, parts_of, make):
     return made[0]
 
 
+def is_within(tree, parts_of, wide, deep):
+    """Whether there are at most so many trees in it, itself counted, and it's at most so deep."""
+    many = 0
+    todo = [(tree, 1)]
+    while todo:
+        part, level = todo.pop()
+        many += 1
+        if many > wide or level > deep:
+            return False
+        for inner in parts_of(part):
+            todo.append((inner, level + 1))
+    return True
+
+
 def alike(one, other):
     """Whether two trees of tuples are equal."""
     todo = [(one, other)]

@@ -140,6 +140,11 @@ def states_by(module, known, without, bounds):
 
 
 def fault_of(module, faces):
+    return fault_by(module, faces, states(module, faces))
+
+
+def fault_by(module, faces, tolds):
+    """The fault by what states tells, or by other such triples."""
     name, uses, seals, values, _ = module
     by_name = {face[0]: face for face in faces}
     for use in uses:
@@ -150,7 +155,7 @@ def fault_of(module, faces):
             if m != name and not (m in uses and t in by_name[m][1]):
                 return ("told", x)
     found = {}
-    for x, word, what in states(module, faces):
+    for x, word, what in tolds:
         if word != "kind":
             return ("def", x)
         found[x] = what

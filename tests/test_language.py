@@ -22,7 +22,7 @@ BARRED_WORDS = r"""\b(type|typing|typing_extensions|enum|Enum|IntEnum|StrEnum|Fl
 |NamedTuple|TypedDict|TYPE_CHECKING|abstractmethod)\b|dataclass|overload|contextmanager|_wall|_WallAttr""".replace("\n", "")
 NODES = (
     ast.AsyncFunctionDef, ast.AsyncFor, ast.AsyncWith, ast.Await, ast.Global, ast.GeneratorExp, ast.Yield, ast.YieldFrom,
-    ast.Try, ast.With, ast.Div, ast.MatMult, ast.AnnAssign, ast.Import, ast.NamedExpr, ast.Set,
+    ast.With, ast.Div, ast.MatMult, ast.AnnAssign, ast.Import, ast.NamedExpr, ast.Set,
 )
 
 
@@ -120,6 +120,21 @@ class Language(unittest.TestCase):
                 if isinstance(node, ast.Assign) and isinstance(node.value, ast.Call):
                     self.assertNotIn(ast.unparse(node.value.func), ("zip", "enumerate", "reversed", "range", "map"), name)
                     self.assertNotRegex(ast.unparse(node.value.func), r"\.(items|keys|values)$", name)
+
+    def test_errors_that_are_caught(self):
+        own = {node.name for node in TREES["errors"].body if isinstance(node, ast.ClassDef)}
+        for name, tree in TREES.items():
+            for node in ast.walk(tree):
+                if isinstance(node, ast.Try):
+                    self.assertEqual(node.finalbody, [], name)
+                    for handler in node.handlers:
+                        caught = handler.type.elts if isinstance(handler.type, ast.Tuple) else [handler.type]
+                        self.assertLessEqual({ast.unparse(word) for word in caught}, own, name)
+                        self.assertIsNone(handler.name, name)
+                if isinstance(node, ast.Raise) and node.exc is not None:
+                    self.assertIsInstance(node.exc, ast.Call, name)
+                    self.assertIn(ast.unparse(node.exc.func), own, name)
+                    self.assertIsNone(node.cause, name)
 
     def test_names(self):
         for name, tree in TREES.items():
