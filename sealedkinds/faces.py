@@ -1,7 +1,7 @@
 """Faces that come to others, and users that break where one doesn't."""
 
 from sealedkinds.kinds import owns_in
-from sealedkinds.names import LETTERS
+from sealedkinds.names import fresh_name
 from sealedkinds.opening import comes_to
 
 
@@ -54,13 +54,3 @@ def user_of(name, kind, term):
     faces = [(module, tuple(owns[module]), ()) for module in owns]
     uses = sorted([name] + list(owns))
     return (fresh_name(uses), tuple(uses), (), (("x", kind),), (("x", term),)), faces
-
-
-def fresh_name(names):
-    """A name of two letters that is none of these."""
-    number = 0
-    word = "aa"
-    while word in names:
-        number += 1
-        word = LETTERS[number // len(LETTERS)] + LETTERS[number % len(LETTERS)]
-    return word

@@ -31,6 +31,23 @@ def are_rising_names(things):
     return all([is_name(thing) for thing in things]) and rises(things)
 
 
+def name_of(number):
+    """The name of that number: a to z, then aa, ab and so on."""
+    letters = []
+    while number >= 0:
+        letters.append(LETTERS[number % len(LETTERS)])
+        number = number // len(LETTERS) - 1
+    return "".join(letters[::-1])
+
+
+def fresh_name(names):
+    """The first name that is none of these."""
+    number = 0
+    while name_of(number) in names:
+        number += 1
+    return name_of(number)
+
+
 def is_row(thing, width):
     """Whether it is a tuple of tuples of so many things, each led by a label, the labels rising."""
     if not isinstance(thing, tuple):
