@@ -1,6 +1,6 @@
 """Modules looked at apart, by the faces of those that they use."""
 
-from sealedkinds.defining import defined_states
+from sealedkinds.defining import defined_states, found_anew
 from sealedkinds.kinds import opened, owns_in
 from sealedkinds.looking import DEEPEST, WIDE
 from sealedkinds.opening import comes_to
@@ -8,7 +8,12 @@ from sealedkinds.opening import comes_to
 
 def states(module, faces):
     """A list of (x, word, what), one for each definition in order."""
-    return defined_states(module[4], known_by(module, faces), {}, WIDE, DEEPEST)
+    return states_by(module, faces, found_anew)
+
+
+def states_by(module, faces, find):
+    """Likewise, where find(x, looked) tells word and what of what is looked at."""
+    return defined_states(module[4], known_by(module, faces), {}, WIDE, DEEPEST, find)
 
 
 def known_by(module, faces):
@@ -24,10 +29,13 @@ def known_by(module, faces):
 def fault_of(module, faces):
     """None, or the first due pair (word, what)."""
     fault = sight_fault(module, faces)
-    if fault is not None:
-        return fault
+    return states_fault(module, states(module, faces)) if fault is None else fault
+
+
+def states_fault(module, found):
+    """The first due of ("def", x), ("none", x) and ("closed", x), by what states tells; None."""
     kinds = {}
-    for x, word, what in states(module, faces):
+    for x, word, what in found:
         if word != "kind":
             return ("def", x)
         kinds[x] = what

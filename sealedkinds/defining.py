@@ -3,16 +3,18 @@
 from sealedkinds.looked import Looked
 
 
-def defined_states(defs, known, without, wide, deep):
+def defined_states(defs, known, without, wide, deep, find):
     """A list of (x, word, what), one for each definition, by kinds of at most so many things and at most so deep.
 
     Known is a dict of the kinds of what is known, without one of what is defined but has no kind; neither is changed.
+    Find(x, looked) tells word and what of a definition that is neither unknown nor leaning.
     """
     kinds = {what: known[what] for what in known}
     leaning = {what: True for what in without}
     found = []
     for x, term in defs:
-        word, what = state_of(x, term, kinds, leaning, wide, deep)
+        looked = Looked(term, kinds, x, wide, deep)
+        word, what = find(x, looked) if looked.unknown is None else unknown_state(looked, leaning)
         found.append((x, word, what))
         if word == "kind":
             kinds[x] = what
@@ -21,11 +23,13 @@ def defined_states(defs, known, without, wide, deep):
     return found
 
 
-def state_of(x, term, kinds, leaning, wide, deep):
-    """The word and the what of one definition."""
-    looked = Looked(term, kinds, x, wide, deep)
-    if looked.unknown is None:
-        return looked.state()
+def found_anew(x, looked):
+    """The word and the what of a definition, by looking at it."""
+    return looked.state()
+
+
+def unknown_state(looked, leaning):
+    """The word and the what of a definition that names what has no kind."""
     part = looked.spots[looked.unknown][0]
     what = part[1] if part[0] == "name" else (part[1], part[2])
     if what in leaning:

@@ -1,7 +1,7 @@
 """The whole: modules, each behind those that it uses."""
 
 from sealedkinds.apart import fault_of
-from sealedkinds.defining import defined_states
+from sealedkinds.defining import defined_states, found_anew
 from sealedkinds.modules import face_of, is_module
 
 # Looked at as one, with the seals opened, kinds may become so much greater.
@@ -40,7 +40,8 @@ def whole_states(modules):
     for name, uses, _, _, defs in modules:
         known = {what: kinds[what] for what in kinds if what[0] in uses}
         leaning = {what: True for what in without if what[0] in uses}
-        for x, word, what in defined_states(defs, known, leaning, WIDE_JOINED, DEEPEST_JOINED):
+        states = defined_states(defs, known, leaning, WIDE_JOINED, DEEPEST_JOINED, found_anew)
+        for x, word, what in states:
             found.append((name, x, word, what))
             if word == "kind":
                 kinds[(name, x)] = what

@@ -20,6 +20,7 @@ copyright credits delattr dir eval exec exit gc getattr globals hasattr help id 
 setattr super type vars sys""".split())
 BARRED_WORDS = r"""\b(type|typing|typing_extensions|enum|Enum|IntEnum|StrEnum|Flag|IntFlag|Generic|Protocol|ABC|ABCMeta|namedtuple
 |NamedTuple|TypedDict|TYPE_CHECKING|abstractmethod)\b|dataclass|overload|contextmanager|_wall|_WallAttr""".replace("\n", "")
+DOUBLE = ("__init__", "__len__", "__eq__")
 NODES = (
     ast.AsyncFunctionDef, ast.AsyncFor, ast.AsyncWith, ast.Await, ast.Global, ast.GeneratorExp, ast.Yield, ast.YieldFrom,
     ast.With, ast.Div, ast.MatMult, ast.AnnAssign, ast.Import, ast.NamedExpr, ast.Set,
@@ -76,7 +77,7 @@ class Language(unittest.TestCase):
                 if isinstance(node, ast.FunctionDef):
                     self.assertLessEqual(node.end_lineno - node.lineno + 1, 40, (name, node.name))
                     self.assertEqual(node.decorator_list, [], (name, node.name))
-                    self.assertIsNotNone(ast.get_docstring(node) or node.name == "__init__" or None, (name, node.name))
+                    self.assertIsNotNone(ast.get_docstring(node) or node.name in DOUBLE or None, (name, node.name))
 
     def test_what_stands_at_the_top(self):
         for name, tree in TREES.items():
@@ -121,12 +122,19 @@ class Language(unittest.TestCase):
                     self.assertNotIn(ast.unparse(node.value.func), ("zip", "enumerate", "reversed", "range", "map"), name)
                     self.assertNotRegex(ast.unparse(node.value.func), r"\.(items|keys|values)$", name)
 
+    def is_plain_last(self, node):
+        """Whether it may stand in a `finally`: assignments of names, appends of such, tests by `is None`."""
+        if isinstance(node, ast.If):
+            return bool(re.fullmatch(r"[a-z_.]+ is (not )?None", ast.unparse(node.test))) and all(map(self.is_plain_last, node.body + node.orelse))
+        return bool(re.fullmatch(r"[a-z_.]+ = [a-z_.]+|[a-z_.]+ -= [0-9]+|[a-z_.]+\.append\(\('[a-z]+', [a-z]+\)\)", ast.unparse(node)))
+
     def test_errors_that_are_caught(self):
         own = {node.name for node in TREES["errors"].body if isinstance(node, ast.ClassDef)}
         for name, tree in TREES.items():
             for node in ast.walk(tree):
                 if isinstance(node, ast.Try):
-                    self.assertEqual(node.finalbody, [], name)
+                    for last in node.finalbody:
+                        self.assertTrue(self.is_plain_last(last), ast.unparse(last))
                     for handler in node.handlers:
                         caught = handler.type.elts if isinstance(handler.type, ast.Tuple) else [handler.type]
                         self.assertLessEqual({ast.unparse(word) for word in caught}, own, name)
@@ -166,13 +174,23 @@ class Language(unittest.TestCase):
                     own |= set(methods)
                     attributes |= fields
         for word in own | attributes:
-            self.assertFalse(any(hasattr(value, word) for value in ("", 0, [], {}, set(), b"")) and word != "__init__", word)
+            self.assertFalse(any(hasattr(value, word) for value in ("", 0, [], {}, set(), b"")) and word not in DOUBLE, word)
         for name, tree in TREES.items():
             for node in ast.walk(tree):
                 if isinstance(node, ast.Call) and isinstance(node.func, ast.Attribute):
                     self.assertIn(node.func.attr, METHODS | own, name)
                 elif isinstance(node, ast.Attribute):
                     self.assertIn(node.attr, METHODS | own | attributes, name)
+
+    def test_double_underscore_methods(self):
+        for name, tree in TREES.items():
+            for node in ast.walk(tree):
+                if isinstance(node, ast.FunctionDef) and node.name.startswith("__"):
+                    self.assertIn(node.name, DOUBLE, name)
+                    if node.name == "__eq__":
+                        self.assertRegex(ast.unparse(node.body[0]), r"^if not isinstance\(other, [A-Z][a-z]+\):\n    return False$")
+                    if node.name == "__len__":
+                        self.assertRegex(ast.unparse(node.body[-1]), r"^return len\(")
 
     def test_strings(self):
         for name, tree in TREES.items():
