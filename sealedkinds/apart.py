@@ -1,7 +1,8 @@
 """Modules looked at apart, by the faces of those that they use."""
 
-from sealedkinds.defining import defined_states, found_anew
-from sealedkinds.kinds import opened, owns_in
+from sealedkinds.defining import defined_kinds, defined_states, found_anew
+from sealedkinds.kinds import kind_parts, opened
+from sealedkinds.known import known_of
 from sealedkinds.looking import DEEPEST, WIDE
 from sealedkinds.opening import comes_to
 
@@ -13,7 +14,7 @@ def states(module, faces):
 
 def states_by(module, faces, find):
     """Likewise, where find(x, looked) tells word and what of what is looked at."""
-    return defined_states(module[4], known_by(module, faces), {}, WIDE, DEEPEST, find)
+    return defined_states(module[4], known_of(known_by(module, faces)), {}, WIDE, DEEPEST, find)
 
 
 def known_by(module, faces):
@@ -29,17 +30,10 @@ def known_by(module, faces):
 def fault_of(module, faces):
     """None, or the first due pair (word, what)."""
     fault = sight_fault(module, faces)
-    return states_fault(module, states(module, faces)) if fault is None else fault
-
-
-def states_fault(module, found):
-    """The first due of ("def", x), ("none", x) and ("closed", x), by what states tells; None."""
-    kinds = {}
-    for x, word, what in found:
-        if word != "kind":
-            return ("def", x)
-        kinds[x] = what
-    return value_fault(module, kinds)
+    if fault is not None:
+        return fault
+    kinds, without = defined_kinds(module[4], known_of(known_by(module, faces)), WIDE, DEEPEST)
+    return ("def", without) if without is not None else value_fault(module, kinds)
 
 
 def sight_fault(module, faces):
@@ -57,8 +51,12 @@ def sight_fault(module, faces):
 def is_in_sight(kind, module, owns):
     """Whether all sealed kinds in it are the module's own, or stand in the owns of a face that it uses."""
     name, uses, _, _, _ = module
-    for other, own in owns_in(kind):
-        if other != name and (other not in uses or own not in owns[other]):
+    todo = [kind]
+    while todo:
+        part = todo.pop()
+        if part[0] != "own":
+            todo.extend(kind_parts(part))
+        elif part[1] != name and (part[1] not in uses or part[2] not in owns[part[1]]):
             return False
     return True
 

@@ -1,12 +1,13 @@
 """The states of definitions, one behind another."""
 
+from sealedkinds.known import Known
 from sealedkinds.looked import Looked
 
 
 def defined_states(defs, known, without, wide, deep, find):
     """A list of (x, word, what), one for each definition, by kinds of at most so many things and at most so deep.
 
-    Known is a dict of the kinds of what is known, without one of what is defined but has no kind; neither is changed.
+    Known is a dict of what is known, without one of what is defined but has no kind; neither is changed.
     Find(x, looked) tells word and what of a definition that is neither unknown nor leaning.
     """
     kinds = {what: known[what] for what in known}
@@ -17,10 +18,24 @@ def defined_states(defs, known, without, wide, deep, find):
         word, what = find(x, looked) if looked.unknown is None else unknown_state(looked, leaning)
         found.append((x, word, what))
         if word == "kind":
-            kinds[x] = what
+            kinds[x] = Known(what)
         else:
             leaning[x] = True
     return found
+
+
+def defined_kinds(defs, known, wide, deep):
+    """A dict of the kinds of the definitions up to the first one that has none, and the name of that one; None."""
+    kinds = {what: known[what] for what in known}
+    found = {}
+    for x, term in defs:
+        looked = Looked(term, kinds, x, wide, deep)
+        kind = looked.told_kind() if looked.unknown is None else None
+        if kind is None:
+            return found, x
+        found[x] = kind
+        kinds[x] = Known(kind)
+    return found, None
 
 
 def found_anew(x, looked):

@@ -1,7 +1,8 @@
 """A house: modules kept over many calls, with all their editions."""
 
-from sealedkinds.apart import sight_fault, states_by, states_fault
+from sealedkinds.apart import sight_fault, states_by, value_fault
 from sealedkinds.errors import Faulty, InUse, NoEdition, NoModule, Ring
+from sealedkinds.known import Known
 from sealedkinds.modules import face_of
 from sealedkinds.running import LIMIT, ran, used
 
@@ -31,7 +32,7 @@ class Looking:
 
     def state(self, what, looked):
         """The word and the what of that definition."""
-        kinds = [kind for _, kind in looked.spots if isinstance(kind, tuple)]
+        kinds = [what.kind for _, what in looked.spots if isinstance(what, Known)]
         last = self.looks.get(what)
         if last is None or last[0] != looked.term or last[1] != kinds:
             last = (looked.term, kinds, looked.state())
@@ -208,5 +209,17 @@ def look_at(module, modules, looking):
     name = module[0]
     faces = [face_of(modules[use]) for use in module[1]]
     found = states_by(module, faces, lambda x, looked: looking.state((name, x), looked))
+    return found, fault_by(module, faces, found)
+
+
+def fault_by(module, faces, states):
+    """The fault of a module, by what states tells of it; None."""
     fault = sight_fault(module, faces)
-    return found, states_fault(module, found) if fault is None else fault
+    if fault is not None:
+        return fault
+    kinds = {}
+    for x, word, what in states:
+        if word != "kind":
+            return ("def", x)
+        kinds[x] = what
+    return value_fault(module, kinds)

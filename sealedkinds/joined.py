@@ -2,6 +2,7 @@
 
 from sealedkinds.apart import fault_of
 from sealedkinds.defining import defined_states, found_anew
+from sealedkinds.known import Known
 from sealedkinds.modules import face_of, is_module
 
 # Looked at as one, with the seals opened, kinds may become so much greater.
@@ -44,7 +45,7 @@ def whole_states(modules):
         for x, word, what in states:
             found.append((name, x, word, what))
             if word == "kind":
-                kinds[(name, x)] = what
+                kinds[(name, x)] = Known(what)
             else:
                 without[(name, x)] = True
     return found

@@ -25,14 +25,27 @@ def with_kinds(kind, parts):
 
 def is_kind(thing):
     """Whether the thing is a kind."""
+    return ways_and_owns(thing) is not None
+
+
+def ways_and_owns(thing):
+    """The dict of the ways in which the kind's numbers stand, and the list of (M, T) of its sealed kinds, as often as
+    they come; None of what is no kind."""
     ways = {}
+    owns = []
     todo = [thing]
     while todo:
         part = todo.pop()
-        if not is_made_as_kind(part) or not stands_as_before(part, ways):
-            return False
-        todo.extend(kind_parts(part))
-    return True
+        if not is_made_as_kind(part):
+            return None
+        head = part[0]
+        if head == "own":
+            owns.append((part[1], part[2]))
+        elif head != "num":
+            if not stands_as_before(part, ways):
+                return None
+            todo.extend(kind_parts(part))
+    return ways, owns
 
 
 def is_kind_within(thing, ways, wide, deep):
@@ -183,8 +196,21 @@ def owns_in(kind):
 
 def opened(kind, opens):
     """The kind with K for each sealed kind of M and T, of the list opens of (M, T, K)."""
+    if not opens or not has_own(kind):
+        return kind
     seals = {(module, name): inside for module, name, inside in opens}
     return folded(kind, kind_parts, lambda part, parts: unsealed(part, parts, seals))
+
+
+def has_own(kind):
+    """Whether a sealed kind stands in it."""
+    todo = [kind]
+    while todo:
+        part = todo.pop()
+        if part[0] == "own":
+            return True
+        todo.extend(kind_parts(part))
+    return False
 
 
 def unsealed(kind, parts, seals):

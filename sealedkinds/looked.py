@@ -12,8 +12,8 @@ FIRST = 2
 class Looked:
     """A term to be looked at, in kinds of at most so many things and at most so deep.
 
-    Kinds is a dict of the kinds known there. Spots has, in order of places, a pair (part, what) of each: what is the
-    node of what a name stands for, or the kind known of it, likewise of a from; of a fun and a case the node of the
+    Kinds is a dict of what is known there. Spots has, in order of places, a pair (part, what) of each: what is the
+    node of what a name stands for, or what is known of it, likewise of a from; of a fun and a case the node of the
     (first) name that it binds; else None. Unknown is the number of the first spot, in order, of a name or a from that
     stands for nothing; None.
     """
@@ -22,18 +22,12 @@ class Looked:
         self.term = term
         self.wide = wide
         self.deep = deep
+        self.spots = bindings(term, FIRST, kinds, {} if own is None else {own: WHOLE})
         self.unknown = None
-        self.spots = []
-        for part, which in bindings(term, FIRST):
-            what = which
-            if which is None:
-                if part[0] == "name":
-                    what = WHOLE if part[1] == own else kinds.get(part[1])
-                elif part[0] == "from":
-                    what = kinds.get((part[1], part[2]))
-                if what is None and self.unknown is None and (part[0] == "name" or part[0] == "from"):
-                    self.unknown = len(self.spots)
-            self.spots.append((part, what))
+        for number, (part, what) in enumerate(self.spots):
+            if what is None and (part[0] == "name" or part[0] == "from"):
+                self.unknown = number
+                break
 
     def place(self, number):
         """The place of the spot of that number."""
@@ -67,6 +61,13 @@ class Looked:
         """Whether these rules can be kept together, by kinds that aren't too great."""
         solver, nodes, broken = self.keep(chosen, many)
         return broken is None and solver.within(nodes, self.wide, self.deep)
+
+    def told_kind(self):
+        """The told kind; None where the rules can't be kept together."""
+        solver, nodes, broken = self.keep()
+        if broken is not None or not solver.within(nodes, self.wide, self.deep):
+            return None
+        return solver.kinds_of([nodes[-1]])[0]
 
     def state(self):
         """("kind", the told kind), or ("clash", the first place by which the rules can't be kept together)."""

@@ -1,6 +1,7 @@
 """The kinds of terms, found as open as can be."""
 
 from sealedkinds.errors import Clash, Unknown
+from sealedkinds.known import Known
 from sealedkinds.looked import Looked
 from sealedkinds.terms import places_of
 
@@ -26,7 +27,7 @@ def can_be(term, known, places, *, own=None):
 
 def looked_over(term, known, own):
     """The term, ready to be looked at; Unknown(place)."""
-    looked = Looked(term, {what: kind for what, kind in known}, own, WIDE, DEEPEST)
+    looked = Looked(term, {what: Known(kind) for what, kind in known}, own, WIDE, DEEPEST)
     if looked.unknown is not None:
         raise Unknown(looked.place(looked.unknown))
     return looked

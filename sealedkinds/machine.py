@@ -59,7 +59,7 @@ class Run:
 def coded(term, module, x):
     """The code of a term, all spots being of that module and definition."""
     under_way = []
-    for place, (part, _) in zip(places_of(term), bindings(term, 0)):
+    for place, (part, _) in zip(places_of(term), bindings(term, 0, {}, {})):
         start = len(under_way) - len(term_parts(part))
         code = (BEGINNINGS[part[0]], part, (module, x, place), under_way[start:])
         del under_way[start:]

@@ -1,6 +1,6 @@
 """Modules and their faces."""
 
-from sealedkinds.kinds import is_kind, is_told, numbers_in, owns_in
+from sealedkinds.kinds import is_told, ways_and_owns
 from sealedkinds.names import are_rising_names, is_name, is_row
 from sealedkinds.terms import is_term
 
@@ -41,7 +41,7 @@ def are_seals(thing):
 
 def is_sealable(thing):
     """Whether the thing is a kind without numbers and sealed kinds."""
-    return is_kind(thing) and not numbers_in(thing) and not owns_in(thing)
+    return ways_and_owns(thing) == ({}, [])
 
 
 def are_values(thing, name, owns):
@@ -51,9 +51,10 @@ def are_values(thing, name, owns):
 
 def is_tellable(thing, name, owns):
     """Whether the thing is a kind as told tells it, whose sealed ones of that module are among owns."""
-    if not is_kind(thing) or not is_told(thing):
+    found = ways_and_owns(thing)
+    if found is None or (found[0] and not is_told(thing)):
         return False
-    return all([module != name or own in owns for module, own in owns_in(thing)])
+    return all([module != name or own in owns for module, own in found[1]])
 
 
 def are_defs(thing):

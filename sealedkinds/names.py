@@ -18,17 +18,17 @@ def is_name(thing):
     return isinstance(thing, str) and 1 <= len(thing) <= 8 and not thing.strip(LETTERS)
 
 
-def rises(things):
-    """Whether each of them is greater than the one ahead of it."""
-    for one, other in zip(things, things[1:]):
-        if one >= other:
+def all_names(things):
+    """Whether all of them, a list or a tuple, are names."""
+    for thing in things:
+        if not isinstance(thing, str) or not 1 <= len(thing) <= 8:
             return False
-    return True
+    return not "".join(things).strip(LETTERS)
 
 
 def are_rising_names(things):
-    """Whether all are names, each greater than the one ahead of it."""
-    return all([is_name(thing) for thing in things]) and rises(things)
+    """Whether all of them, a list or a tuple, are names, each greater than the one ahead of it."""
+    return all_names(things) and len(set(things)) == len(things) and sorted(things) == list(things)
 
 
 def name_of(number):
@@ -53,9 +53,9 @@ def is_row(thing, width):
     if not isinstance(thing, tuple):
         return False
     for item in thing:
-        if not isinstance(item, tuple) or len(item) != width or not is_name(item[0]):
+        if not isinstance(item, tuple) or len(item) != width:
             return False
-    return rises([item[0] for item in thing])
+    return are_rising_names([item[0] for item in thing])
 
 
 def figures_of(number):

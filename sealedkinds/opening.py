@@ -46,10 +46,13 @@ def put_row(kind, other, puts, todo):
     mine = dict(kind[1])
     more = []
     for pair in other[1]:
-        if pair[0] in mine:
-            todo.append((mine[pair[0]], pair[1]))
-        else:
+        part = mine.get(pair[0])
+        if part is None:
             more.append(pair)
+        elif part[0] != "num" and part[0] != "own":
+            todo.append((part, pair[1]))
+        elif part != pair[1]:
+            return False
     if len(more) + len(mine) != len(other[1]):
         return False
     if kind[2] is None:

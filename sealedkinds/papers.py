@@ -35,7 +35,7 @@ def name_paper(part, what, here, inner, bound):
     """The kind of the bound name or of the whole, or one to which the known kind comes; likewise of a from."""
     if isinstance(what, int):
         return bound.setdefault(what, here) == here
-    return comes_to(what, here)
+    return comes_to(what.kind, here)
 
 
 def hole_paper(part, what, here, inner, bound):

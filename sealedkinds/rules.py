@@ -1,6 +1,6 @@
 """The rule of each place of a term, kept in a solver.
 
-A rule takes the solver, the part at the place, what it stands for or the node of what it binds, and the list of nodes
+A rule takes the solver, the part at the place, what is known of it or the node of what it binds, and the list of nodes
 under way, whose last ones are those of the places straight in it: these it takes off. It tells the node of the place;
 None where it can't be kept.
 """
@@ -15,7 +15,7 @@ def num_rule(solver, part, what, under_way):
 
 def name_rule(solver, part, what, under_way):
     """The kind of the bound name or of the whole, or one to which the known kind comes; likewise of a from."""
-    return what if isinstance(what, int) else solver.brought(what)
+    return what if isinstance(what, int) else solver.node_of(what)
 
 
 def hole_rule(solver, part, what, under_way):
@@ -32,7 +32,7 @@ def call_rule(solver, part, what, under_way):
     """The first part has (fun K L), the other one K, itself L."""
     handed = under_way.pop()
     function = solver.root(under_way.pop())
-    shape = solver.shapes[function]
+    shape = solver.shape_of(function)
     if shape is None:
         here = solver.made(None)
         solver.shapes[function] = ("fun", handed, here)

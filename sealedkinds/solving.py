@@ -1,5 +1,8 @@
 """Kinds under way: a graph of nodes, made equal by pairs, as open as can be."""
 
+from sealedkinds.known import Known
+from sealedkinds.walking import alike
+
 NUM = 0
 LEAF = (1, 1)
 
@@ -10,7 +13,8 @@ class Solver:
     A node that is equal to another one links to it; one that links to itself stands for all that lead to it.
     Its shape is None while it is open, else the kind's tuple with nodes for the kinds straight in it,
     of a rec or a sum (head, dict of label and node, rest). A rest is a number of its own or None;
-    it is open, or is known to be more labels and another rest.
+    it is open, or is known to be more labels and another rest. The shape of a known kind without numbers is
+    ("closed", known) as long as nothing asks for its parts; all names of which that is known share the node.
 
     No rest ever stands behind unlike labels: kinds come in so, and joining two rows keeps it.
     So a rest is never asked for a label that it stands behind.
@@ -22,6 +26,7 @@ class Solver:
         self.shapes = [None] * (1 + many)
         self.shapes[NUM] = ("num",)
         self.rests = []
+        self.closed = {}
 
     def made(self, shape):
         """A new node of that shape."""
@@ -70,6 +75,34 @@ class Solver:
             todo.append((kind, node))
         return node
 
+    def node_of(self, known):
+        """A node of what is known, its numbers apart from all others."""
+        if known in self.closed:
+            return self.closed[known]
+        if known.size_and_deep() is None:
+            return self.brought(known.kind)
+        self.closed[known] = self.closed_node(known.kind, known)
+        return self.closed[known]
+
+    def closed_node(self, kind, known):
+        """A node of a kind without numbers, known so."""
+        if kind[0] == "num":
+            return NUM
+        return self.made(kind if kind[0] == "own" else ("closed", known))
+
+    def shape_of(self, node):
+        """The shape of a root; one that is closed is taken apart."""
+        shape = self.shapes[node]
+        if shape is None or shape[0] != "closed":
+            return shape
+        kind = shape[1].kind
+        if kind[0] == "fun":
+            shape = ("fun", self.closed_node(kind[1], Known(kind[1])), self.closed_node(kind[2], Known(kind[2])))
+        else:
+            shape = (kind[0], {label: self.closed_node(part, Known(part)) for label, part in kind[1]}, None)
+        self.shapes[node] = shape
+        return shape
+
     def root(self, node):
         """The node that stands for all that are equal to this one."""
         links = self.links
@@ -102,6 +135,11 @@ class Solver:
         """Joins two roots that have shapes, and adds the pairs that then have to be equal; whether they can be."""
         one = self.shapes[left]
         other = self.shapes[right]
+        if one[0] == "closed" and other[0] == "closed":
+            self.links[left] = right
+            return alike(one[1].kind, other[1].kind)
+        one = self.shape_of(left)
+        other = self.shape_of(right)
         head = one[0]
         if head != other[0]:
             return False
@@ -156,7 +194,7 @@ class Solver:
     def field(self, head, node, label):
         """The node at that label, where the node is made a rec or a sum that has it; None where it can't be one."""
         top = self.root(node)
-        shape = self.shapes[top]
+        shape = self.shape_of(top)
         if shape is None:
             inside = self.made(None)
             self.shapes[top] = (head, {label: inside}, self.fresh_rest())
@@ -173,9 +211,9 @@ class Solver:
         return inside
 
     def inner(self, node):
-        """The nodes of the kinds straight in a root's, from left to right."""
+        """The nodes of the kinds straight in a root's, from left to right; none of one that is closed."""
         shape = self.shapes[node]
-        if shape is None or shape[0] == "num" or shape[0] == "own":
+        if shape is None or shape[0] == "num" or shape[0] == "own" or shape[0] == "closed":
             return []
         if shape[0] == "fun":
             return [shape[1], shape[2]]
@@ -185,32 +223,39 @@ class Solver:
     def within(self, nodes, wide, deep):
         """Whether the kinds of all these nodes have at most so many things and are at most so deep."""
         measures = {}
+        links = self.links
         for node in nodes:
-            measure = self.measure(node, wide, deep, measures)
-            if measure is None or measure[1] > deep:
-                return False
+            while links[node] != node:
+                node = links[node]
+            if node not in measures:
+                measure = self.measure(node, wide, deep, measures)
+                if measure is None or measure[1] > deep:
+                    return False
         return True
 
     def measure(self, node, wide, left, measures):
-        """How great and how deep the kind of the node is; None where it's too great, or deeper than is left.
+        """How great and how deep the kind of a root is; None where it's too great, or deeper than is left.
 
-        A kind within itself is deeper than any. What has been told is in measures, by roots.
+        A kind within itself is deeper than any. What has been told is in measures, by roots; not yet of this one.
         """
         links = self.links
-        while links[node] != node:
-            node = links[node]
-        if node in measures:
-            return measures[node]
         if left == 0:
             return None
         shape = self.shapes[node]
         if shape is None or shape[0] == "num" or shape[0] == "own":
             measures[node] = LEAF
             return LEAF
+        if shape[0] == "closed":
+            measures[node] = shape[1].size_and_deep()
+            return measures[node] if measures[node][0] <= wide else None
         size = 1
         deepest = 0
         for part in self.inner(node):
-            measure = self.measure(part, wide, left - 1, measures)
+            while links[part] != part:
+                part = links[part]
+            measure = measures.get(part)
+            if measure is None:
+                measure = self.measure(part, wide, left - 1, measures)
             if measure is None:
                 return None
             size += measure[0]
@@ -236,6 +281,10 @@ class Solver:
                 whole = -1 - node
                 kinds[whole] = self.kind_by(whole, [kinds[part] for part in parts[whole]], numbers)
             elif node not in kinds:
+                shape = self.shapes[node]
+                if shape is not None and shape[0] == "closed":
+                    kinds[node] = shape[1].kind
+                    continue
                 inner = [self.root(part) for part in self.inner(node)]
                 if not inner:
                     kinds[node] = self.kind_by(node, inner, numbers)

@@ -1,7 +1,7 @@
 """Terms: what is one, its places, its parts, what it names."""
 
 from sealedkinds.errors import NoPlace
-from sealedkinds.names import is_name, is_number, is_row
+from sealedkinds.names import all_names, is_number, is_row
 from sealedkinds.walking import all_in
 
 MOST = 99990
@@ -53,6 +53,10 @@ def term_of(head, items):
 def term_parts(term):
     """The terms straight in a term, from left to right."""
     head = term[0]
+    if head == "name":
+        return []
+    if head == "fun":
+        return [term[2]]
     if head == "rec":
         return [pair[1] for pair in term[1]]
     if head == "case":
@@ -73,54 +77,68 @@ def with_items(term, parts):
 
 def is_term(thing):
     """Whether the thing is a term."""
+    names = []
     todo = [thing]
     while todo:
         part = todo.pop()
-        if not is_made_as_term(part):
+        if isinstance(part, tuple) and len(part) == 2 and part[0] == "name":
+            names.append(part[1])
+            continue
+        more = names_for(part)
+        if more is None:
             return False
+        names.extend(more)
         todo.extend(term_parts(part))
-    return True
+    return all_names(names)
 
 
 def is_made_as_term(thing):
     """Whether the thing is a term if what stands where its parts stand are terms."""
+    names = names_for(thing)
+    return names is not None and all_names(names)
+
+
+def names_for(thing):
+    """What all have to be names for the thing to be made as a term; None where it isn't made so else."""
     if not isinstance(thing, tuple) or not thing or not isinstance(thing[0], str):
-        return False
+        return None
     head = thing[0]
     if head == "rec":
-        return len(thing) == 2 and is_row(thing[1], 2)
+        return () if len(thing) == 2 and is_row(thing[1], 2) else None
     if head == "case":
-        return len(thing) == 3 and is_row(thing[2], 3) and len(thing[2]) > 0 and binds_names(thing)
+        if len(thing) != 3 or not is_row(thing[2], 3) or not thing[2]:
+            return None
+        return [way[1] for way in thing[2]]
     if head not in LAYOUTS or len(thing) != 1 + len(LAYOUTS[head]):
-        return False
+        return None
+    if head == "name" or head == "fun":
+        return thing[1:2]
     if head == "num":
-        return is_number(thing[1]) and 0 <= thing[1] <= MOST
-    for k in NAMES_AT[head]:
-        if not is_name(thing[k]):
-            return False
-    return True
+        return () if is_number(thing[1]) and 0 <= thing[1] <= MOST else None
+    return [thing[k] for k in NAMES_AT[head]]
 
 
-def binds_names(case):
-    """Whether each of its ways has a name where one is bound."""
-    return all([is_name(way[1]) for way in case[2]])
-
-
-def bindings(term, first):
+def bindings(term, first, known, around):
     """The list, in order of places, of (part, which) for each place.
 
-    What is bound by the ways of a case and by funs has numbers from first on. Which, of a name, is the number of what
-    binds it, None where nothing does; of a fun and of a case the number of what it binds, of its first way; else None.
+    What is bound by the ways of a case and by funs has numbers from first on; around is a dict of those of names that
+    are bound around the term. Which, of a name, is the number of what binds it, what known has for it where nothing
+    does, likewise of a from, None where it has nothing; of a fun and of a case the number of what it binds, of its
+    first way; else None.
     """
     found = []
     free = first
-    todo = [(term, {})]
+    todo = [(term, around)]
     while todo:
         part, scope = todo.pop()
         head = part[0]
         which = None
         if head == "name":
             which = scope.get(part[1])
+            if which is None:
+                which = known.get(part[1])
+        elif head == "from":
+            which = known.get((part[1], part[2]))
         elif head == "fun":
             which = free
             free += 1
@@ -190,7 +208,7 @@ def way_to(term, place):
 def named_in(term):
     """The list, in order of places, of (place, what) of names that aren't bound, and of froms."""
     found = []
-    for place, (part, which) in zip(places_of(term), bindings(term, 0)):
+    for place, (part, which) in zip(places_of(term), bindings(term, 0, {}, {})):
         if part[0] == "from":
             found.append((place, (part[1], part[2])))
         elif part[0] == "name" and which is None:

@@ -3,6 +3,7 @@
 from sealedkinds.errors import Bare, Faulty, Met, NoValue, TooLong, Unlike
 from sealedkinds.joined import faults
 from sealedkinds.kinds import kind_parts
+from sealedkinds.known import Known
 from sealedkinds.looked import Looked
 from sealedkinds.looking import DEEPEST, WIDE
 from sealedkinds.machine import Program, Run, coded
@@ -30,7 +31,7 @@ def rows_of(face, size):
     Parts has the numbers of the rows of the terms straight in that one.
     """
     name, _, values = face
-    known = {(name, x): kind for x, kind in values}
+    known = {(name, x): Known(kind) for x, kind in values}
     leaves = [("num", 0), ("num", 1)] + [("from", name, x) for x, _ in values]
     labels = rec_labels([kind for _, kind in values])
     rows = []

@@ -33,7 +33,7 @@ def shows_right(modules, thing):
         end = start + len(module[4])
         if sight_fault(module, faces) is not None:
             return False
-        kinds = kinds_shown(module, known_by(module, faces), thing[start:end])
+        kinds = kinds_shown(module, faces, thing[start:end])
         if kinds is None or value_fault(module, kinds) is not None:
             return False
         faces.append(face_of(module))
@@ -41,15 +41,17 @@ def shows_right(modules, thing):
     return True
 
 
-def kinds_shown(module, known, triples):
+def kinds_shown(module, faces, triples):
     """A dict of the kinds that the triples show the module's definitions to have; None where they don't show it."""
+    known = known_by(module, faces)
     kinds = {}
     for (x, term), triple in zip(module[4], triples):
         if not isinstance(triple, tuple) or len(triple) != 3 or triple[0] != module[0] or triple[1] != x:
             return None
-        if not is_shown(term, {**known, **kinds}, triple[2], x):
+        if not is_shown(term, known, triple[2], x):
             return None
         kinds[x] = triple[2][-1][1]
+        known[x] = kinds[x]
     return kinds
 
 

@@ -311,6 +311,42 @@ class Bounds(unittest.TestCase):
             self.assertEqual(self.found(text, []), (0,) * (many - 16) if many > 15 else expected)
 
 
+class KnownBounds(unittest.TestCase):
+    """What is known may be too great by itself, with numbers in it or without."""
+
+    def test_deep(self):
+        for levels in range(13, 20):
+            for bottom in (("num",), ("any", 0), ("own", "m", "t"), ("rec", (), None), ("rec", (), 0), ("fun", ("any", 0), ("num",))):
+                for wrap in (lambda kind: ("rec", (("a", kind),), None), lambda kind: ("fun", ("any", 5), kind), lambda kind: ("sum", (("a", kind), ("b", ("num",))), None),
+                             lambda kind: ("fun", kind, ("num",)), lambda kind: ("rec", (("a", kind),), 7)):
+                    kind = bottom
+                    while plain.deep_of(kind) < levels:
+                        kind = wrap(kind)
+                    self.looked_at(plain.told(kind), levels <= 16)
+
+    def test_wide(self):
+        for things in (98, 99, 100, 101, 102, 130):
+            closed = wide(things)
+            self.assertEqual(plain.size_of(closed), things)
+            self.looked_at(closed, things <= 100)
+            self.looked_at(plain.told(("rec", closed[1], 3)), things <= 100)
+
+    def looked_at(self, kind, fits):
+        """Looks at a name of which that is known: alone, in a rec, called, where a rec of its label is asked for."""
+        known = [("x", kind)]
+        for text in ("x", "(rec a x)", "(call (fun y 1) x)", "(get x a)", "(call x 1)", "(rec a 1 b (get (rec a 1 b x) a))", "(under 1 2 x x)", "(fun y x)"):
+            term = term_in(text)
+            word, what = plain.kind_of(term, known)
+            if word == "kind":
+                self.assertEqual(kind_of(term, known), what, text)
+            else:
+                with self.assertRaises(Clash) as caught:
+                    kind_of(term, known)
+                self.assertEqual(caught.exception.what, what, text)
+            if text == "x":
+                self.assertEqual(word == "kind", fits)
+
+
 def told_funs(many):
     kind = ("num",)
     for _ in range(many):
