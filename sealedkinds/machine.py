@@ -8,7 +8,7 @@ the code and the scope; what it still has to do it leaves with the run, by rules
 """
 
 from sealedkinds.errors import Bare, Met, NoValue, TooLong
-from sealedkinds.terms import MOST, bindings, places_of, term_parts
+from sealedkinds.terms import MOST, placed_parts, term_parts
 
 
 class Program:
@@ -59,7 +59,7 @@ class Run:
 def coded(term, module, x):
     """The code of a term, all spots being of that module and definition."""
     under_way = []
-    for place, (part, _) in zip(places_of(term), bindings(term, 0, {}, {})):
+    for place, part in placed_parts(term):
         start = len(under_way) - len(term_parts(part))
         code = (BEGINNINGS[part[0]], part, (module, x, place), under_way[start:])
         del under_way[start:]
@@ -115,12 +115,12 @@ def begin_rec(run, code, scope):
 
 def end_rec(run, code, scope):
     """The rec of what was told."""
-    pairs = code[1][1]
-    start = len(run.worths) - len(pairs)
-    labels = [pair[0] for pair in pairs]
-    worth = ("rec", tuple(zip(labels, run.worths[start:])))
-    del run.worths[start:]
-    run.worths.append(worth)
+    labels = [pair[0] for pair in code[1][1]]
+    worths = run.worths
+    start = len(worths) - len(labels)
+    worth = ("rec", tuple(zip(labels, worths[start:])))
+    del worths[start:]
+    worths.append(worth)
 
 
 def begin_tag(run, code, scope):

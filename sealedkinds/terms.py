@@ -163,11 +163,16 @@ def is_place(thing):
 
 def places_of(term):
     """The list of all places, those in a part ahead of its whole, parts from left to right."""
+    return [place for place, _ in placed_parts(term)]
+
+
+def placed_parts(term):
+    """The list, in order of places, of (place, part)."""
     found = []
     todo = [((), term)]
     while todo:
         place, part = todo.pop()
-        found.append(place)
+        found.append((place, part))
         for k, inner in enumerate(term_parts(part)):
             todo.append((place + (k,), inner))
     return found[::-1]
